@@ -15,6 +15,10 @@ LISTED = {
     ),
     "bounds.py": ("MOST", "DEEP", "KEEP"),
     "worths.py": ("is_name", "is_worth", "is_plain", "are_alike"),
+    "worthtexts.py": ("show_worth", "read_worth"),
+    "programs.py": ("is_deed", "is_program"),
+    "leading.py": ("led_deed", "led_rows"),
+    "programtexts.py": ("show_program", "read_program"),
 }
 
 
