@@ -295,6 +295,10 @@ class Deeds(Told):
         for _ in range(12):
             rows = (("if", A, rows, ()),)
         self.check(is_deed, deed(*rows), True)
+        rows = (("tell", ONE), ("give", "x", ONE))
+        for _ in range(8):
+            rows = (("do", within(*rows)),)
+        self.check(is_deed, deed(*rows), True)
 
 
 class Kinds(Told):

@@ -279,6 +279,14 @@ class Written(Told):
         program = (module(kinds=(("box", kind(("go", deed(*rows)))),)),)
         self.check_both(program, show_program(program))
 
+    def test_bounds_are_not_asked_here(self):
+        names = sorted([first + second for first in "abm" for second in "abcdefghi"] + ["main"])
+        deeds = tuple((name, deed()) for name in names)
+        many = tuple(module(name=name, deeds=deeds) for name in names)
+        self.check_both(many, show_program(many))
+        long = (module(*(("do", ONE),) * 500),)
+        self.check_both(long, show_program(long))
+
     def test_other_programs_have_other_texts(self):
         """Whatever is put otherwise, it is told from its text, and is read back."""
         program = (module(("let", "x", ("row", (ONE, A))), ("try", (), ("e", (("say", A),)), ()),
