@@ -36,7 +36,7 @@ def trees_of(text):
             standing[-1][1].append((bracket, tuple(trees)))
         else:
             standing[-1][1].append(piece)
-        if len(standing) > MOST_OPEN:
+        if len(standing) - 1 > MOST_OPEN:
             raise NoText(0)
     if len(standing) > 1:
         raise NoText(0)
