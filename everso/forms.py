@@ -25,6 +25,13 @@ EXPRESSIONS = {
     "wake": ("one", "one"),
 }
 
+# What stands in a led text in the place of a name; `outwards` is the number of a deed around.
+LED_NAMES = {
+    "own": ("name",),
+    "around": ("outwards", "name"),
+    "cell": ("name", "name"),
+}
+
 ROWS = {
     "let": ("own", "one"),
     "keep": ("kept", "one"),
