@@ -3,7 +3,7 @@
 from everso.bodies import bears_give
 from everso.forms import LED_NAMES
 from everso.programs import are_takes, parts_by, parts_in, parts_of_expression, word_of
-from everso.worths import is_name, is_whole
+from everso.worths import is_whole
 
 MOST_PARTS = 400
 MOST_OUTWARDS = 12

@@ -33,10 +33,19 @@ def record_holds(thing):
 
 
 def are_so(done, end, effects):
-    """Tell whether the effects are just those that were done, and with the end all told are worths."""
-    # A thing that is made may have a number that no worth has.
-    told = [effect[-1] for effect in done if effect[0] in ("field", "cell")] + list(end[1:])
-    return are_same(done, effects) and all(is_worth(worth) for worth in told)
+    """Tell whether the effects are just those that were done, and all that came of them are worths."""
+    # A thing that is made may have been given a number that no worth has.
+    worths = [worth for effect in done for worth in worths_in(effect)] + list(end[1:])
+    return are_same(done, effects) and all(is_worth(worth) for worth in worths)
+
+
+def worths_in(effect):
+    """Tell the worths that an effect brings."""
+    if effect[0] in ("field", "cell"):
+        return effect[3:]
+    if effect[0] == "make" and effect[2] != ("room",):
+        return (("thing", effect[1]),)
+    return ()
 
 
 class ToldStore(Store):

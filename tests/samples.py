@@ -1,4 +1,8 @@
 """What several tests build programs of."""
+import re
+
+from everso.plains import Plain
+from everso.programtexts import read_program
 
 A = ("name", "a")
 ONE = ("worth", 1)
@@ -116,3 +120,36 @@ def shortened_and_lengthened(thing):
     for k in range(len(thing) + 1):
         for more in (None, "b", (), ONE):
             yield thing[:k] + (more,) + thing[k:]
+
+
+def text_of(text):
+    """A text as it is written, of one that has more or fewer blanks around its brackets."""
+    text = re.sub(r"\s+", " ", re.sub(r"\)(?=[^)\s])", ") ", text)).strip()
+    return re.sub(r" (?=\))", "", re.sub(r"(?<=\() ", "", text))
+
+
+def program_of(rows="", deeds="", kinds="", more=()):
+    """The program of a main of these texts, and of other modules' texts, in their order."""
+    texts = [f"(module main ({deeds}) ({kinds}) ({rows}))", *more]
+    return read_program("\n".join(sorted(text_of(text) for text in texts)))
+
+
+def gone(rows="", deeds="", kinds="", more=(), wells=(), **bounds):
+    """The plain run of such a program."""
+    return Plain(program_of(rows, deeds, kinds, more), wells, **bounds)
+
+
+def comes_to(expression, deeds="", kinds="", ahead="", **more):
+    """What an expression comes to in main's rows, behind others: a worth, or ("raised", worth)."""
+    plain = gone(f"{ahead} (let it {expression})", deeds, kinds, **more)
+    return plain.cell("main", "it") if plain.stand() == ("ended",) else plain.stand()
+
+
+def told_of(run, program):
+    """All that a run tells that may be compared, but its records."""
+    modules = [name for name, _, _, _ in program]
+    return (
+        run.sayings(), run.stand(), run.steps(), run.things(),
+        tuple(run.thing(k) for k in range(run.things())),
+        tuple((name, cell, run.cell(name, cell)) for name in modules for cell in run.cells(name)),
+    )
