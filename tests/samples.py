@@ -128,9 +128,20 @@ def text_of(text):
     return re.sub(r" (?=\))", "", re.sub(r"(?<=\() ", "", text))
 
 
+def rising(text):
+    """The texts in brackets of which a text is, by what they begin with."""
+    groups, open_now = [""], 0
+    for sign in text_of(text):
+        open_now += {"(": 1, ")": -1}.get(sign, 0)
+        groups[-1] += sign
+        if sign == ")" and not open_now:
+            groups.append("")
+    return " ".join(sorted((group.strip() for group in groups if group.strip()), key=lambda group: group.split()[0]))
+
+
 def program_of(rows="", deeds="", kinds="", more=()):
     """The program of a main of these texts, and of other modules' texts, in their order."""
-    texts = [f"(module main ({deeds}) ({kinds}) ({rows}))", *more]
+    texts = [f"(module main ({rising(deeds)}) ({rising(kinds)}) ({rows}))", *more]
     return read_program("\n".join(sorted(text_of(text) for text in texts)))
 
 
