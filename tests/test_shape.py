@@ -19,6 +19,24 @@ LISTED = {
     "programs.py": ("is_deed", "is_program"),
     "leading.py": ("led_deed", "led_rows"),
     "programtexts.py": ("show_program", "read_program"),
+    "plains.py": ("Plain",),
+    "runs.py": ("Run",),
+    "recordchecks.py": ("record_holds",),
+    "holding.py": ("held_by",),
+}
+
+# Of its classes the methods, each of which stands in the class itself, with its arguments.
+PLAIN = {
+    "__init__": "self, program, wells, *, most=MOST, deep=DEEP", "sayings": "self", "stand": "self", "cell": "self, module, name",
+    "cells": "self, module", "things": "self", "thing": "self, k", "steps": "self", "asked": "self, well", "there": "self, place",
+}
+METHODS = {
+    "Plain": PLAIN,
+    "Run": {
+        **PLAIN, "__init__": "self, program, *, most=MOST, deep=DEEP, keep=KEEP", "program": "self", "wells": "self",
+        "tell": "self, well, worth", "speak": "self, many=1, *, mouth=None", "busy": "self", "spoken": "self", "records": "self",
+        "change": "self, edits", "gone": "self", "would": "self, edits", "at": "self, step",
+    },
 }
 
 
@@ -45,6 +63,15 @@ class Shape(unittest.TestCase):
         for name, listed in LISTED.items():
             body = ast.parse((PACKAGE / name).read_text(encoding="utf-8")).body
             self.assertEqual(sorted(set(listed) - set(defined(body))), [], name)
+
+    def test_the_methods_that_it_lists_are_defined_in_the_class_itself(self):
+        found = {}
+        for _, _, tree in self.each():
+            for node in ast.walk(tree):
+                if isinstance(node, ast.ClassDef) and node.name in METHODS:
+                    found[node.name] = {row.name: ast.unparse(row.args) for row in node.body if isinstance(row, ast.FunctionDef)}
+        for name, methods in METHODS.items():
+            self.assertEqual({method: found[name].get(method) for method in methods}, methods)
 
     def test_signs_and_lengths(self):
         for name, text, _ in self.each():
