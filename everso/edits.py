@@ -3,17 +3,16 @@
 from everso.errors import NoEdit, NoProgram
 from everso.places import is_number
 from everso.programs import all_parts, is_module, is_program, word_of
-from everso.worths import is_name, is_plain
 
 MOST_EDITS = 8
 
-# What an edit has behind its word, in order.
+# What an edit has behind its word, in order, by the slots of programs, and a number.
 EDITS = {
     "deed": ("name", "name", "deed"),
     "kind": ("name", "name", "kind"),
     "rows": ("name", "rows"),
     "module": ("name", "module"),
-    "told": ("name", "number", "plain"),
+    "told": ("name", "number", "worth"),
 }
 # Those of them in the place of which None may stand.
 PERHAPS = ("deed", "kind", "module")
@@ -42,12 +41,8 @@ def is_in_slot(slot, part):
     """Tell whether a part of an edit is what its slot asks for."""
     if part is None and slot in PERHAPS:
         return True
-    if slot == "name":
-        return is_name(part)
     if slot == "number":
         return is_number(part)
-    if slot == "plain":
-        return is_plain(part)
     if slot == "module":
         return is_module(part)
     return all_parts(slot, part) is not None

@@ -25,14 +25,13 @@ class Machine:
         self.stand_now = None
 
     def copy(self):
-        """Tell a machine that goes on as this one, without anything shared that changes."""
+        """Tell a machine that goes on as this one, which waits or has ended, and shares nothing that changes."""
         machine = Machine(self.store.copy(), self.watch.copy(), self.most, self.deep)
         machine.many_steps = self.many_steps
         machine.standing = self.standing
         machine.highest = self.highest
         machine.room = self.room
         machine.stack = [dict(frame) for frame in self.stack]
-        machine.end = self.end
         machine.stand_now = self.stand_now
         return machine
 

@@ -4,7 +4,7 @@ from everso.errors import TooDeep, TooLong
 from everso.going import go
 from everso.machines import Machine
 from everso.matching import are_same
-from everso.numbering import Gatherer, handed_by, place_by, was_by
+from everso.numbering import Gatherer, handed_by, was_by
 from everso.places import is_number, is_of_thing
 from everso.raising import NotSo
 from everso.recordforms import has_form
@@ -29,23 +29,13 @@ def record_holds(thing):
     except (TooLong, TooDeep, NotSo):
         return False
     made = (machine.stand_now, machine.many_steps, machine.highest)
-    return store.is_all_read() and are_same(made, (end, steps, deep)) and are_so(store.effects(), end, effects)
+    return store.is_all_read() and are_same(made, (end, steps, deep)) and are_so(store.effects(), effects)
 
 
-def are_so(done, end, effects):
-    """Tell whether the effects are just those that were done, and all that came of them are worths."""
-    # A thing that is made may have been given a number that no worth has.
-    worths = [worth for effect in done for worth in worths_in(effect)] + list(end[1:])
-    return are_same(done, effects) and all(is_worth(worth) for worth in worths)
-
-
-def worths_in(effect):
-    """Tell the worths that an effect brings."""
-    if effect[0] in ("field", "cell"):
-        return effect[3:]
-    if effect[0] == "make" and effect[2] != ("room",):
-        return (("thing", effect[1]),)
-    return ()
+def are_so(done, effects):
+    """Tell whether effects are just those that were done, and make what is a worth."""
+    made = [("thing", effect[1]) for effect in done if effect[0] == "make" and effect[2] != ("room",)]
+    return are_same(done, effects) and all(is_worth(worth) for worth in made)
 
 
 class ToldStore(Store):
@@ -138,7 +128,7 @@ def greatest_number(text, handed, reads):
     gatherer = Gatherer()
     handed_by(text[0], handed, gatherer)
     for place, was in reads:
-        place_by(place, gatherer)
+        # The thing of a place was handed, or stood in what was read ahead.
         was_by(place, was, gatherer)
     return max(gatherer.numbers, default=-1)
 

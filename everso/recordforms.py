@@ -35,11 +35,11 @@ def has_room(handed):
 def is_handed(text, handed):
     """Tell whether a thing is what is handed to a stretch of this text."""
     if text[0] == "module":
-        return handed == () and isinstance(handed, tuple)
+        return handed == ()
     if not isinstance(handed, tuple) or len(handed) != 2:
         return False
     room, told = handed
-    if not is_number(room) and (room is not None or text[0] == "wake"):
+    if not is_room(room):
         return False
     if text[0] == "deed":
         return isinstance(told, tuple) and len(told) == len(text[1][0]) and all(is_worth(worth) for worth in told)
@@ -103,7 +103,7 @@ class ReadsForm:
             return t != self.giver
         if thing == ("new",):
             return True
-        if not isinstance(thing, tuple) or len(thing) != 3 or word_of(thing) != "gave":
+        if word_of(thing) != "gave" or len(thing) != 3:
             return False
         up = self.ups.get(t)
         return is_pair(up) and self.is_up(t, up) and leads_to_give(up[0][1], thing[1], thing[2])
@@ -196,7 +196,7 @@ def body_of(row, number):
 
 def is_held(row, body, pending, is_in_loop):
     """Tell whether what a frame holds of a body comes next of what is pending, where it holds something."""
-    if row[0] != "each" and (row[0] != "try" or body != LAST):
+    if row[0] != "each" and body != LAST:
         return True
     if not pending:
         return False

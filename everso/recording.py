@@ -20,11 +20,10 @@ class Recorder:
         self.taken_steps = 0
 
     def copy(self):
-        """Tell a recorder that goes on as this one; none takes records any more."""
+        """Tell a recorder that goes on as this one behind a deed; it takes no records any more."""
         recorder = Recorder(None)
         recorder.around = list(self.around)
         recorder.under_way = list(self.under_way)
-        recorder.over = dict(self.over)
         recorder.kept = dict(self.kept)
         return recorder
 
@@ -125,12 +124,8 @@ def read_and_done(log, first):
 
 
 def written_place(effect):
-    """Tell the place that an effect writes, () where none is that may be read behind it alone."""
+    """Tell the place that an effect writes, () where it is one that was read ahead, or made within."""
     word = effect[0]
-    if word in ("make", "say"):
-        return ()
     if word == "out":
         return ("field",) + effect[1:]
-    if word in ("field", "cell"):
-        return effect[:3]
-    return effect[:2]
+    return effect[:3] if word in ("field", "cell") else ()

@@ -150,16 +150,23 @@ def set_up_frames(machine, rows, was):
     for number, inner in path[:-1]:
         row = rows[number]
         machine.stack.append(rows_frame(rows, body, number))
-        if row[0] in ("while", "each"):
-            parts, turn = loops[0] if row[0] == "each" else ((), -1)
-            machine.stack.append(loop_frame(row, parts, turn))
-            machine.stack.append(turn_frame(row))
-        elif row[0] == "try":
-            held, = loops[0] if inner == LAST else (ON,)
+        if row[0] == "each":
+            (parts, turn), *loops = loops
+            set_up_loop(machine, row, parts, turn)
+        elif row[0] == "while":
+            set_up_loop(machine, row, (), -1)
+        elif row[0] == "try" and inner == LAST:
+            (held,), *loops = loops
             machine.stack.append(try_frame(row, inner, held))
-        if row[0] == "each" or (row[0] == "try" and inner == LAST):
-            loops = loops[1:]
+        elif row[0] == "try":
+            machine.stack.append(try_frame(row, inner, ON))
         rows, body = bodies_of(row)[inner], inner
     number, = path[-1]
     machine.stack.append(rows_frame(rows, body, number))
     return rows[number]
+
+
+def set_up_loop(machine, row, parts, turn):
+    """Set up a loop in a turn of which a giver gave."""
+    machine.stack.append(loop_frame(row, parts, turn))
+    machine.stack.append(turn_frame(row))

@@ -85,7 +85,6 @@ def do_cell(store, effect):
     """Put a field of a module; the names of its fields stand at a place of their own."""
     _, module, name, worth = effect
     store.places[("cell", module, name)] = (worth,)
-    store.places.setdefault(("cells", module), ((),))
     put_name(store, ("cells", module), name)
 
 

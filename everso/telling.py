@@ -41,7 +41,7 @@ def names_of_cells(machine, module):
 def cell_of(machine, module, name):
     """Tell a module's field, NoCell where it isn't there."""
     names = names_of_cells(machine, module)
-    if names is None or not is_name(name) or name not in names:
+    if names is None or name not in names:
         raise NoCell(name)
     return machine.store.there(("cell", module, name))[0]
 

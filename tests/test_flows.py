@@ -214,6 +214,18 @@ class Givers(unittest.TestCase):
         ):
             self.assertEqual(comes_to("(wake g (= 1))", deeds.format(body), ahead="(let g (call go ())) (do (wake g (= 1)))"), found)
 
+    def test_it_goes_on_in_loops_within_tries_and_lasts(self):
+        loop = "(each x (= [1 2]) ((while (= yes) ((try ((give y x) (leave)) - ())))))"
+        for deed, found in (
+            (f"(try ({loop}) - ())", [1, 2, None]),
+            (f"(try ((raise (= 0))) (e ({loop} (each z (= [5]) ((give y z))))) ())", [1, 2, 5, None]),
+            (f"(try () - ({loop} (each z (= [5]) ((try () - ((each y (= [6 7]) ((give y (row (z y))))))))))) (give y (= 8))",
+             [1, 2, row(5, 6), row(5, 7), 8, None]),
+            (f"(each v (= [1 2]) ((try ((tell v)) - ({loop} (each z (= [5]) ((give y v)))))))", [1, 2, 1, 1]),
+        ):
+            wakes = "(say (at (wake g (= 9)) (= 1)))" * len(found)
+            self.assertEqual(list(self.says("(let g (call go ()))" + wakes, f"(go () ({deed}))")), found, deed)
+
     def test_the_first_worth_is_unused_the_others_are_the_gives_names(self):
         plain = gone("(let g (call go ())) (do (wake g (= 1))) (do (wake g (= 2))) (do (wake g (= 3)))",
                      "(go () ((give a (= 0)) (give b a)))")

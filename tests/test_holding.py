@@ -112,6 +112,17 @@ class Held(unittest.TestCase):
         other = plain_of("(let g (call go ((= [1 2])))) (do (wake g (= 0)))", deeds)
         self.assertIsNone(held_by(second, other, (1, 7)))
 
+    def test_where_nothing_is_there(self):
+        deeds = "(go (r) ((each x r ((give y x)))))"
+        first, second = of_word("wake", "(let g (call go ((= [1])))) (do (wake g (= 0))) (do (wake g (= 7)))", deeds)
+        plain = plain_of("(let t (new box ())) (let f (deed () ()))", deeds, "(box - ())")
+        for k in (0, 1, 2, 10 ** 15):
+            self.assertIsNone(held_by(first, plain, (k, 0)))
+            self.assertIsNone(held_by(second, plain, (k, 7)))
+        record = of_word("deed", "(let f (call (deed (n) ((tell (deed () ((tell n)))))) ((= 5)))) (do (call f ()))")[-1]
+        for k in (0, 1, 2):
+            self.assertIsNone(held_by(record, plain, (k, ())))
+
     def test_wells(self):
         record, = of_word("rows", "(if (= yes) ((say (ask w))) ())", told=(("w", 5),))
         for wells, held in (

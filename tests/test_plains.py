@@ -284,6 +284,10 @@ class Things(unittest.TestCase):
         self.assertEqual(plain.there(("names", 0)), (("a", "b"),))
         self.assertEqual(plain.there(("field", 0, "b")), (4,))
 
+    def test_a_field_that_was_put_out_isnt_there(self):
+        plain = gone("(let t (new box ())) (put t b (= 1)) (out t b) (say (has t b)) (do (field t b))", kinds=KINDS)
+        self.assertEqual((plain.sayings(), plain.stand(), plain.there(("field", 0, "b"))), ((False,), raised("lacks"), ()))
+
     def test_lacks(self):
         for text in ("(do (field t c))", "(out t c)", "(do (send t no ()))"):
             plain = gone("(let t (new box ())) (put t b (= 1))" + text, kinds=KINDS)

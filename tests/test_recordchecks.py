@@ -243,6 +243,69 @@ class Otherwise(unittest.TestCase):
         self.assertTrue(record_holds(record(looped, ((0, 2), (0, 0), (0,)), ((("on",),),), ("told", None), (), 2)))
         self.assertFalse(record_holds(record(looped, ((0, 2), (0, 0), (0,)), ((("left",),),), ("told", None), (), 2)))
 
+    def test_what_lasts_hold_where_it_comes_to_nothing(self):
+        """It has to be an end of a try's rows all the same, and in a frame that leads to a give."""
+        deed = ((), (("try", (), None, (("give", ("cell", "m", "a"), ONE), ("tell", ("worth", 5)))), ("let", ("cell", "m", "b"), ONE)))
+
+        def record(path, *loops, deed=deed, more=(("cell", "m", "a", 7),), end=("told", 5), steps=2):
+            frame = ("gave", path, loops)
+            return (
+                ("wake", deed), (1, 7), ((("frame", 1), (frame,)), (("up", 1), ((deed, 0),))),
+                (("frame", 1, ("going",)),) + more + (("frame", 1, ("ended",)),), end, steps, 1,
+            )
+        path = ((0, 2), (0,))
+        for held, is_so in (
+            (("on",), True), (("told", 3), True), (("raised", "kind"), True), (("told", ("thing", 9)), True), (("left",), False), (("over",), False),
+            (("gave", 1), False), (("told",), False), (("told", 1, 2), False), (("told", ("thing", -1)), False), (("raised", ()), False),
+            ("on", False), ((), False), (None, False), (["on"], False), (("on", None), False), (("no", 1), False),
+        ):
+            self.assertIs(record_holds(record(path, (held,))), is_so, held)
+        for loops in ((), (("on",),), ((("on",), 0),), ((("on",),), (("on",),)), ((),), (None,), ([("on",)],)):
+            self.assertFalse(record_holds(record(path, *loops)), loops)
+        # A let, where the name is one too, is no give.
+        self.assertFalse(record_holds(record(((1,),), more=(("cell", "m", "b", 7),), end=("told", None), steps=0)))
+        # A try stands in a loop where something else stands between, too.
+        for outer, is_so in (("while", True), ("if", False)):
+            deed_now = ((), ((outer, ("worth", True), (("if", ONE, deed[1][:1], ()),)) + ((),) * (outer == "if"),))
+            found = record(((0, 0), (0, 0)) + path, (("left",),), deed=deed_now)
+            self.assertIs(record_holds(found), is_so)
+
+    def test_the_ups_of_givers_and_what_they_bear(self):
+        """The room isn't asked for, and so counts by its form alone."""
+        give = ("give", ("cell", "m", "a"), ONE)
+        for deed, room, is_so in (
+            (((), (give,)), 0, True), (((), (give,)), None, False), (((), (give,)), True, False), (((), (give,)), -1, False),
+            (((), (("leave",), give)), 0, False), (((), (("do", ("deed", (), (give,))),)), 0, False), (((), ()), 0, False),
+        ):
+            effects = (("frame", 1, ("going",)), ("frame", 1, ("gave", ((0,),), ())))
+            reads = ((("frame", 1), (("new",),)), (("up", 1), ((deed, room),)))
+            self.assertIs(record_holds((("wake", deed), (1, None), reads, effects, ("gave", 1), 2, 1)), is_so, deed)
+            text = ("rows", (("do", ("wake", ("cell", "m", "g"), ("worth", None))),))
+            reads = ((("cell", "m", "g"), (("thing", 1),)), (("sort", 1), (("giver",),))) + reads
+            self.assertIs(record_holds((text, (None, None), reads, effects, ("on",), 6, 1)), is_so, deed)
+            ended = (("frame", 1, ("going",)), ("frame", 1, ("ended",)))
+            self.assertFalse(record_holds((text, (None, None), reads, ended, ("on",), 4, 1)) and not is_so)
+
+    def test_frames_that_are_read(self):
+        text = ("rows", (("do", ("wake", ("cell", "m", "g"), ("worth", None))),))
+        reads = ((("cell", "m", "g"), (("thing", 1),)), (("sort", 1), (("giver",),)))
+        for frame, end, is_so in (
+            (("going",), ("raised", "runs"), True), (("ended",), ("raised", "ended"), True), (("new",), ("on",), False),
+            (("gave", ((0,),), ()), ("on",), False), (("over",), ("raised", "ended"), False), ((), ("raised", "runs"), False),
+            (("going", 1), ("raised", "runs"), False), (["going"], ("raised", "runs"), False), ("going", ("raised", "runs"), False),
+        ):
+            self.assertIs(record_holds((text, (None, None), reads + ((("frame", 1), (frame,)),), (), end, 4, 0)), is_so, frame)
+
+    def test_sorts_that_are_read(self):
+        text = ("rows", (("say", ("word", "sort", (("cell", "m", "t"),))),))
+        for sort, word in (
+            (("kind", "m", "k"), "thing"), (("giver",), "thing"), (("room",), "thing"), (("closure",), "deed"), (("deed", "m", "k"), None),
+            (("kind", "m"), None), (("kind", "m", "K"), None), (("thing",), None), ("giver", None), ((), None), (None, None), (["giver"], None),
+        ):
+            reads = ((("cell", "m", "t"), (("thing", 1),)), (("sort", 1), (sort,)))
+            for said in ("thing", "deed", "kind"):
+                self.assertIs(record_holds((text, (None, None), reads, (("say", said),), ("on",), 3, 0)), said == word, sort)
+
     def test_a_turn(self):
         reads = TURN[2]
         for k, was in (
@@ -349,8 +412,52 @@ class Texts(unittest.TestCase):
         for name in ("a", ("around", 1, "a"), ("name", "a"), ("far", "m", "a"), ("own", "A"), ("own",), ("cell", "m"), ("own", "a", "b"), None, ()):
             self.check(("rows", (("if", ("worth", False), (("let", name, ONE),), ()),)), (0, None), False, (), ("on",), 2)
             self.check(("caught", name, (("do", ONE),)), (0, 5), False, (), ("on",), 2)
-        for rows in ((("keep", own("a"), ONE),), (("keep", ("cell", "m", "a"), ONE),), (("do", ("name", "a")),), (("do", ("cell", "m")),)):
+        for rows in (
+            (("keep", "a", ONE),), (("keep", own("a"), ONE),), (("keep", ("cell", "m", "a"), ONE),), (("do", ("name", "a")),),
+            (("do", ("cell", "m")),), (("let", "a", ONE),), (("each", "a", ONE, ()),), (("try", (), ("a", ()), ()),),
+        ):
             self.check(("rows", (("if", ("worth", False), rows, ()),)), (0, None), False, (), ("on",), 2)
+
+    def test_what_is_no_text(self):
+        """What would come of it would be just so, but it isn't one of the forms."""
+        do = (("do", ONE),)
+        room = (("make", 0, ("room",), None),)
+        for text, handed, effects, end, steps, deep in (
+            (("rows", do), (None, None), (), ("on",), 2, 0), (("module", do), (), (), ("on",), 2, 0),
+            (("deed", ((), do)), (None, ()), room, ("told", None), 2, 1), (("turn", ("while", ("worth", False), ())), (None, None), (), ("over",), 2, 0),
+            (("caught", ("cell", "m", "a"), do), (None, 1), (("cell", "m", "a", 1),), ("on",), 2, 0),
+        ):
+            self.check(text, handed, True, effects, end, steps, deep)
+            for other in (text + (None,), text + ((),), text[:-1], ("row",) + text[1:], list(text), (text,)):
+                self.check(other, handed, False, effects, end, steps, deep)
+        for row_now in (("say", ONE), ("if", ("worth", False), (), ()), ("try", (), None, ()), ("do", ONE), ("leave",), ONE):
+            for end, steps in (("on",), 1), (("over",), 2), (("left",), 1), (("on",), 2):
+                self.check(("turn", row_now), (None, None), False, (), end, steps)
+        for reads in ((), ((("frame", 1), (("new",),)), (("up", 1), ((((), ()), 0),)))):
+            effects = (("frame", 1, ("going",)), ("frame", 1, ("ended",)))
+            self.assertFalse(record_holds((("wake", ((), ())), (1, None), reads, effects, ("told", None), 0, 1)))
+        deed = ((), (("give", ("cell", "m", "a"), ONE),))
+        reads = ((("frame", 1), (("new",),)), (("up", 1), ((deed, 0),)))
+        effects = (("frame", 1, ("going",)), ("frame", 1, ("gave", ((0,),), ())))
+        for text, is_so in ((("wake", deed), True), (("wake", deed, ()), False), (("wake", deed + ((),)), False), (("wake",), False)):
+            self.assertIs(record_holds((text, (1, None), reads, effects, ("gave", 1), 2, 1)), is_so)
+
+    def test_what_is_handed(self):
+        """The same would come of it, but what is handed isn't what is to be."""
+        do = (("do", ONE),)
+        room = (("make", 0, ("room",), None),)
+        each, loop = ("each", ("cell", "m", "a"), ONE, ()), ("while", ("worth", False), ())
+        for text, rights, wrongs, effects, end, steps, deep in (
+            (("rows", do), ((None, None), (5, None)), ((None, 5), (None, ()), (None,), (None, None, None), ()), (), ("on",), 2, 0),
+            (("turn", loop), ((None, None), (5, None)), ((None, 5), (None, False), (), (None,)), (), ("over",), 2, 0),
+            (("turn", each), ((None, None), (7, None)), ((None, 5), (None,), (None, ())), (("cell", "m", "a", None),), ("on",), 1, 0),
+            (("module", do), ((),), ((None, None), (None,), None, []), (), ("on",), 2, 0),
+            (("deed", ((), do)), ((None, ()),), ((None, None), (None, []), (None, (None,)), (), ((), ())), room, ("told", None), 2, 1),
+        ):
+            for handed in rights:
+                self.check(text, handed, True, effects, end, steps, deep)
+            for handed in wrongs + ((-1, rights[0][-1] if rights[0] else None), ("5", None), (True, None), None, 5, [None, None]):
+                self.check(text, handed, False, effects, end, steps, deep)
 
     def test_four_hundred_parts_and_one_more(self):
         for many, is_so in ((200, True), (201, False)):
@@ -358,6 +465,9 @@ class Texts(unittest.TestCase):
             self.check(("rows", rows), (None, None), is_so, (), ("on",), 2 * many)
             self.check(("module", rows), (), is_so, (), ("on",), 2 * many)
             self.check(("deed", ((), rows)), (None, ()), is_so, (("make", 0, ("room",), None),), ("told", None), 2 * many, 1)
+        rows = (("do", ONE),) * 200 + (("try", (), None, ()),)
+        self.check(("rows", rows), (None, None), False, (), ("on",), 401)
+        self.check(("rows", rows[1:]), (None, None), True, (), ("on",), 399)
         for many, is_so in ((199, True), (200, False)):
             rows = (("do", ONE),) * many
             self.check(("turn", ("while", ("worth", True), rows)), (None, None), is_so, (), ("on",), 2 * many + 2)
@@ -366,10 +476,10 @@ class Texts(unittest.TestCase):
         count = ("cell", "m", "n")
         more = (("let", count, ("word", "plus", (count, ONE))),)
         for end in (623, 624, 625):
-            for ahead in ((), (("do", ONE),), (("do", ("word", "size", (("worth", ""),))),)):
-                rows = ahead + (("while", ("word", "less", (count, ("worth", end))), more),)
+            for ahead, more_steps in (((), 0), (("do", ONE), 2), (("do", ("row", (ONE,))), 3), (("do", ("row", (ONE, ONE))), 4)):
+                rows = (ahead,) * bool(ahead) + (("while", ("word", "less", (count, ("worth", end))), more),)
                 # Eight in each turn, four in the last one, of which the test isn't so.
-                steps = {0: 0, 1: 2}[len(ahead)] + (1 if ahead and ahead[0][1] != ONE else 0) + 1 + 8 * end + 4
+                steps = more_steps + 1 + 8 * end + 4
                 effects = tuple(("cell", "m", "n", n) for n in range(1, end + 1))
                 record = (("rows", rows), (None, None), ((count, (0,)),), effects, ("on",), steps, 0)
                 self.assertIs(record_holds(record), steps <= 5000, steps)

@@ -158,6 +158,12 @@ class Telling(Case):
             self.assert_stands(run)
         self.assertEqual((run.sayings(), run.stand()), ((11, "a", 20), ("ended",)))
 
+    def test_it_goes_on_in_the_room_in_which_it_waits(self):
+        run = run_of("(say (call go ((= 5))))", "(go (n) ((let m (plus (ask w) n)) (tell (row (n m)))))")
+        run.tell("w", 1)
+        self.assertEqual(run.sayings(), (("row", (5, 6)),))
+        self.assert_stands(run)
+
     def test_no_name_and_no_worth(self):
         run = run_of("(say (ask w))")
         for thing in anything():
@@ -589,6 +595,22 @@ class Changes(Case):
         run.change((("deed", "main", "out", deed_of("(out (n) ((do (call inn (n))) (do n)))")),))
         self.assertEqual(run.gone(), run.steps())
         self.assertEqual([record[5] for _, record in run.records()], [14, 8])
+
+    def test_each_effect_of_a_taken_record_is_done_to_the_things_led_to(self):
+        deeds = """
+            (fill (t) ((put t a (= 1)) (out t b) (keep last t) (keep rows (row (t (row (t)))))))
+            (hold (t) ((each x (row (t (= 2))) ((try ((tell x)) - ((give y (= 1))))))))
+        """
+        rows = "(let t (new box ())) (put t b (= 5)) (do (call fill (t))) (let g (call hold (t))) (do (wake g (= 0))) (say (same (at (wake g (= 0)) (= 1)) t))"
+        run = run_of("(do (new box ()))" + rows, deeds, "(box - ())")
+        taken = sum(record[5] for _, record in run.records() if record[0][0] in ("deed", "wake"))
+        self.assert_changed(run, (("rows", "main", rows_of("(do (new box ())) (do (new box ()))" + rows)),), gone=run.steps() + 3 - taken)
+        self.assertEqual(run.thing(2), (("kind", "main", "box"), (("a", 1),)))
+        self.assertEqual((run.cell("main", "last"), run.sayings()), (("thing", 2), (True,)))
+        self.assertEqual(run.records(), Run(run.program()).records())
+        self.assert_changed(run, (("rows", "main", rows_of(rows)),), gone=run.steps() - 6 - taken)
+        self.assertEqual((run.cell("main", "rows"), run.thing(0)[1]), (("row", (("thing", 0), ("row", (("thing", 0),)))), (("a", 1),)))
+        self.assertEqual(run.records(), Run(run.program()).records())
 
     def test_keep_none(self):
         run = run_of("(say (call add ((= 1) (= 2))))", ADD, keep=0)
