@@ -53,7 +53,10 @@ class Maker:
         sort = self.random.randrange(6)
         if sort == 0 and deep < 2:
             return ("row", tuple(self.plain(deep + 1) for _ in range(self.random.randrange(3))))
-        return (None, None, self.is_so(0.5), self.random.randrange(-3, 5), self.one_of("", "a", "thing"), self.one_of(0, 1, 10 ** 15))[sort]
+        return (
+            None, None, self.is_so(0.5), self.random.randrange(-3, 5), self.one_of("", "a", "thing"),
+            self.one_of(0, 1, 10 ** 15),
+        )[sort]
 
     # Expressions.
 
@@ -71,13 +74,15 @@ class Maker:
         if sort == "any" or self.is_so(0.03):
             sort = self.one_of("number", *SORTS)
         if deep <= 0:
-            return self.name(sort, place) if sort in ("thing", "closure", "giver") or self.is_so(0.5) else self.literal(sort)
+            has_no_literal = sort in ("thing", "closure", "giver")
+            return self.name(sort, place) if has_no_literal or self.is_so(0.5) else self.literal(sort)
         common = self.is_so(0.45) and self.common(sort, place, deep - 1)
         return common or getattr(self, "some_" + sort)(place, deep - 1)
 
     def literal(self, sort):
         worths = {
-            "number": self.random.randrange(-2, 6), "text": self.one_of("", "a", "bc", "thing"), "truth": self.is_so(0.5),
+            "number": self.random.randrange(-2, 6), "text": self.one_of("", "a", "bc", "thing"),
+            "truth": self.is_so(0.5),
             "row": ("row", tuple(self.plain(1) for _ in range(self.random.randrange(4)))),
         }
         return number(worths[sort])
@@ -91,7 +96,8 @@ class Maker:
             name = self.one_of("get", "get", "put", "gen")
             return ("send", self.expression("thing", place, deep), name, self.those(KINDS_DEEDS[name][1:], place, deep))
         if which == 2:
-            return ("call", self.expression("closure", place, deep), self.those(self.one_of((), ("i",), ("i",)), place, deep))
+            takes = self.one_of((), ("i",), ("i",))
+            return ("call", self.expression("closure", place, deep), self.those(takes, place, deep))
         if which == 3:
             return ("field", self.expression("thing", place, deep), self.one_of(*FIELDS))
         if which == 4:
@@ -111,6 +117,9 @@ class Maker:
     def wake(self, place, deep):
         return ("wake", self.expression("giver", place, deep), self.expression("number", place, deep))
 
+    def two(self, sort, place, deep):
+        return (self.expression(sort, place, deep), self.expression(sort, place, deep))
+
     def some_number(self, place, deep):
         if self.is_so(0.3):
             return self.literal("number")
@@ -119,25 +128,25 @@ class Maker:
         if self.is_so(0.2):
             return ("word", "at", (self.expression("row", place, deep), self.expression("number", place, deep)))
         word = self.one_of("plus", "plus", "minus", "times", "over", "rest")
-        return ("word", word, (self.expression("number", place, deep), self.expression("number", place, deep)))
+        return ("word", word, self.two("number", place, deep))
 
     def some_text(self, place, deep):
         return self.one_of(
-            self.literal("text"), ("word", "join", (self.expression("text", place, deep), self.expression("text", place, deep))),
+            self.literal("text"), ("word", "join", self.two("text", place, deep)),
             ("word", "sort", (self.expression("any", place, deep),)),
         )
 
     def some_truth(self, place, deep):
         return self.one_of(
-            self.literal("truth"), ("word", "less", (self.expression("number", place, deep), self.expression("number", place, deep))),
-            ("word", "same", (self.expression("any", place, deep), self.expression("any", place, deep))),
-            ("word", "not", (self.expression("truth", place, deep),)), ("has", self.expression("thing", place, deep), self.one_of(*FIELDS)),
+            self.literal("truth"), ("word", "less", self.two("number", place, deep)),
+            ("word", "same", self.two("any", place, deep)), ("word", "not", (self.expression("truth", place, deep),)),
+            ("has", self.expression("thing", place, deep), self.one_of(*FIELDS)),
         )
 
     def some_row(self, place, deep):
         return self.one_of(
-            self.literal("row"), ("row", tuple(self.expression("any", place, deep) for _ in range(self.random.randrange(4)))),
-            ("word", "join", (self.expression("row", place, deep), self.expression("row", place, deep))),
+            self.literal("row"), ("row", self.two("any", place, deep)[:self.random.randrange(3)]),
+            ("word", "join", self.two("row", place, deep)),
             ("fields", self.expression("thing", place, deep)), self.wake(place, deep),
         )
 
@@ -170,7 +179,8 @@ class Maker:
         if place.is_giver and self.is_so(0.2):
             return self.give(place, deep)
         if bodies and self.is_so(0.35):
-            return getattr(self, "row_" + self.one_of("if", "while", "each", "each", "try", "try"))(place, bodies - 1, deep)
+            make = getattr(self, "row_" + self.one_of("if", "while", "each", "each", "try", "try"))
+            return make(place, bodies - 1, deep)
         which = self.random.randrange(10)
         if which < 3:
             name = self.random.choice(sorted(OWN))
@@ -183,7 +193,8 @@ class Maker:
         if which == 4:
             return ("say", self.expression(self.one_of("number", "text", "row"), place, deep))
         if which == 5:
-            return ("put", self.expression("thing", place, deep), self.one_of(*FIELDS), self.expression("any", place, deep))
+            thing = self.expression("thing", place, deep)
+            return ("put", thing, self.one_of(*FIELDS), self.expression("any", place, deep))
         if which == 6 and self.is_so(0.5):
             return ("out", self.expression("thing", place, deep), self.one_of(*FIELDS))
         if which == 7 and self.is_so(0.3):
@@ -195,7 +206,8 @@ class Maker:
         return ("give", self.put(place, self.one_of("i", "x", "e")), worth)
 
     def row_if(self, place, bodies, deep):
-        return ("if", self.expression("truth", place, deep), self.rows(place, 2, bodies, deep), self.rows(place, 2, bodies, deep))
+        test = self.expression("truth", place, deep)
+        return ("if", test, self.rows(place, 2, bodies, deep), self.rows(place, 2, bodies, deep))
 
     def row_while(self, place, bodies, deep):
         name = self.put(place, self.one_of("i", "j"))
@@ -209,23 +221,32 @@ class Maker:
 
     def row_try(self, place, bodies, deep):
         rows = self.rows(place, 3, bodies, deep)
-        caught = (self.put(place, self.one_of("e", "s")), self.rows(place, 2, bodies, deep)) if self.is_so(0.75) else None
+        caught = None
+        if self.is_so(0.75):
+            caught = (self.put(place, self.one_of("e", "s")), self.rows(place, 2, bodies, deep))
         return ("try", rows, caught, self.rows(place, 2, bodies, deep) if self.is_so(0.4) else ())
 
     def safe(self, place, rows, chance):
         """Rows, most of them in a try of their own."""
         self.put(place, "e")
-        return tuple(("try", (row,), ("e", self.one_of((), (("say", ("name", "e")),))), ()) if self.is_so(chance) else row for row in rows)
+        caughts = (("e", ()), ("e", (("say", ("name", "e")),)))
+        return tuple(("try", (row,), self.one_of(*caughts), ()) if self.is_so(chance) else row for row in rows)
 
     def giving(self, place):
         """Rows of a giver that surely give, in bodies of each sort."""
         give, other = self.give(place, 1), self.give(place, 1)
         rows = self.rows(place, 1, 1, 0)
         return self.one_of(
-            (give, other), (("each", "x", number(("row", (1, 2, 3))), rows + (give,)),), (("try", rows, ("e", (give,)), (other,)), give),
-            (("each", "x", number(("row", (1, 2))), (("try", self.one_of(rows, (("leave",),)), None, rows + (give,)),)),),
-            (("let", "j", number(0)), ("while", ("word", "less", (("name", "j"), number(3))), (added("j"), give) + rows)),
-            (("if", number(self.is_so(0.5)), (give,) + rows, (("try", (other, ("raise", number(1))), ("e", (give,)), ()),)),),
+            (give, other),
+            (("each", "x", number(("row", (1, 2, 3))), rows + (give,)),),
+            (("try", rows, ("e", (give,)), (other,)), give),
+            (("each", "x", number(("row", (1, 2))), (("try", self.one_of(rows, (("leave",),)), None, rows + (give,)),)),
+                ),
+            (("try", (("each", "x", number(("row", (1, 2))), (give,)),), None,
+                (("each", "x", number(("row", (3,))), (other,)),)),),
+            (("let", "j", number(0)),
+                ("while", ("word", "less", (("name", "j"), number(3))), (added("j"), give) + rows)),
+            (("if", number(self.is_so(0.5)), (give,), (("try", (other, ("raise", number(1))), ("e", (give,)), ()),)),),
         )
 
     # Programs.
@@ -241,28 +262,35 @@ class Maker:
     def begun(self, place):
         """Rows by which there are worths under some names."""
         rows = [
-            ("let", "g", ("call", ("far", "main", "ga"), (number(1),))), ("let", "h", ("call", ("far", "aux", "gb"), (number(("row", (1, 2))),))),
-            ("let", "t", ("new", ("far", "main", "box"), (number(1),))), ("let", "i", number(0)), ("let", "r", number(("row", (1, "a")))),
+            ("let", "g", ("call", ("far", "main", "ga"), (number(1),))),
+            ("let", "h", ("call", ("far", "aux", "gb"), (number(("row", (1, 2))),))),
+            ("let", "t", ("new", ("far", "main", "box"), (number(1),))),
+            ("let", "i", number(0)), ("let", "r", number(("row", (1, "a")))),
             ("let", "f", self.some_closure(place, 1)), ("keep", "cg", ("name", "g")),
         ]
         rows = [row for row in rows if self.is_so(0.7)]
-        rows += [("say", ("word", "at", (("wake", ("name", self.one_of("g", "h")), number(k)), number(1)))) for k in range(self.random.randrange(4))]
+        for k in range(self.random.randrange(4)):
+            rows.append(("say", ("word", "at", (("wake", ("name", self.one_of("g", "h")), number(k)), number(1)))))
         for row in rows:
             self.put(place, row[1] if row[0] == "let" else "e")
         return rows
 
     def main_rows(self, most):
         place = Place("main")
-        return self.safe(place, self.begun(place), 0.95) + self.safe(place, self.rows(place, most, self.size + 1, self.size + 1), 0.95)
+        rows = self.begun(place) + list(self.rows(place, most, self.size + 1, self.size + 1))
+        return self.safe(place, rows, 0.95)
 
     def program(self):
-        deeds = {module: tuple((name, self.deed(of, *DEEDS[of, name])) for of, name in sorted(DEEDS) if of == module) for module in ("aux", "main")}
+        deeds = {"aux": (), "main": ()}
+        for module, name in sorted(DEEDS):
+            deeds[module] += ((name, self.deed(module, *DEEDS[module, name])),)
         above = self.one_of(None, ("aux", "pot"), ("no", "such"))
         box = self.kind(None, *self.one_of(("make",), ("get", "make"), ("gen", "get", "make", "put")))
         pot = self.kind(self.one_of(None, ("main", "box"), ("main", "tin")), *self.one_of((), ("get",), ("make",)))
         place = Place("aux")
         aux = ("aux", deeds["aux"], (("pot", pot),), self.safe(place, self.rows(place, 1, 1, 1), 0.95))
-        return (aux, ("main", deeds["main"], (("box", box), ("tin", self.kind(above, *self.one_of((), ("get",), ("gen", "put"))))), self.main_rows(5)))
+        tin = self.kind(above, *self.one_of((), ("get",), ("gen", "put")))
+        return (aux, ("main", deeds["main"], (("box", box), ("tin", tin)), self.main_rows(5)))
 
     def edit(self, program):
         which = self.random.randrange(7)

@@ -66,7 +66,8 @@ class Stretch:
         assert run.under_way.pop() is self
         self.last = len(run.stretches)
         self.record = (
-            self.text, self.handed, tuple(self.reads), tuple(self.effects), end, run.steps - self.steps, self.highest - self.stood,
+            self.text, self.handed, tuple(self.reads), tuple(self.effects), end,
+            run.steps - self.steps, self.highest - self.stood,
         )
 
 
@@ -366,7 +367,8 @@ class Reference:
                 if caught is None:
                     raise
                 worth = raised.args[0]
-                yield from self.body(caught[1], room, spot, 1, text=("caught", *caught), handed=(room, worth), ahead=(caught[0], worth))
+                stretch = {"text": ("caught", *caught), "handed": (room, worth), "ahead": (caught[0], worth)}
+                yield from self.body(caught[1], room, spot, 1, **stretch)
         except (Raised, Told, Left) as end:
             came = end
         yield from self.body(last, room, spot, 2, (end_of(came),))
@@ -579,6 +581,7 @@ class Reference:
 
     def all_told(self):
         return (
-            tuple(self.said), self.stand, self.steps, len(self.things), tuple(self.thing(k) for k in range(len(self.things))),
+            tuple(self.said), self.stand, self.steps, len(self.things),
+            tuple(self.thing(k) for k in range(len(self.things))),
             tuple((name, cell, worth) for name in sorted(self.modules) for cell, worth in self.cells[name].items()),
         )

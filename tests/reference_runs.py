@@ -1,5 +1,5 @@
 """Another reading of what a Run is: each deed goes its program anew, and which records it has is kept aside."""
-from reference import Reference, Refused
+from reference import OF_THINGS, Reference, Refused
 
 
 def led(kind, thing, put):
@@ -23,7 +23,7 @@ def led(kind, thing, put):
             return (led("end", thing[0], put),)
         return (tuple(led("worth", part, put) for part in thing[0]), thing[1])
     if kind == "place":
-        return thing[:1] + (put(thing[1]),) + thing[2:] if thing[0] in ("field", "names", "sort", "up", "frame") else thing
+        return thing[:1] + (put(thing[1]),) + thing[2:] if thing[0] in OF_THINGS else thing
     return thing
 
 
@@ -113,10 +113,11 @@ class ReferenceRun:
         except Refused as refused:
             return refused.args
         ended = [stretch.record is not None for stretch in self.plain.stretches]
-        self.has = [
-            self.has[stretch.number] if stretch.number < len(ended) and ended[stretch.number] else stretch.record is not None
-            for stretch in plain.stretches
-        ]
+        has = [stretch.record is not None for stretch in plain.stretches]
+        for number, had_ended in enumerate(ended):
+            if had_ended:
+                has[number] = self.has[number]
+        self.has = has
         self.plain, self.wells = plain, wells
         self.let_go()
         return None

@@ -37,11 +37,13 @@ def renumbered(record, numbers):
         if word == "make":
             return (word, put(effect[1]), effect[2], led("up", effect[3], put))
         if word in ("field", "out", "frame"):
-            last = tuple(led("frame" if word == "frame" else "worth", part, put) for part in effect[3 if word == "field" else 2:])
-            return (word, put(effect[1])) + (effect[2:3] + last if word == "field" else last)
+            name, last = (effect[2:3], effect[3:]) if word == "field" else ((), effect[2:])
+            kind = "frame" if word == "frame" else "worth"
+            return (word, put(effect[1])) + name + tuple(led(kind, part, put) for part in last)
         return effect[:3] + (led("worth", effect[3], put),) if word == "cell" else effect
     return (
-        text, led_handed(text, handed, put), tuple((led("place", place, put), led_was(place, was, put)) for place, was in reads),
+        text, led_handed(text, handed, put),
+        tuple((led("place", place, put), led_was(place, was, put)) for place, was in reads),
         tuple(effect_of(effect) for effect in effects), led("end", end, put), steps, deep,
     )
 
@@ -65,9 +67,11 @@ class Against(unittest.TestCase):
         """All that a Run tells is what the other reading and a Plain tell."""
         told = repr(reference.plain.all_told())
         self.assertEqual(repr(told_of(run, reference.program)), told)
-        plain = Plain(reference.program, tuple(sorted(reference.wells.items())), most=reference.most, deep=reference.deep)
+        wells = tuple(sorted(reference.wells.items()))
+        plain = Plain(reference.program, wells, most=reference.most, deep=reference.deep)
         self.assertEqual(repr(told_of(plain, reference.program)), told)
-        self.assertEqual((run.gone(), run.spoken(), run.program()), (reference.gone, reference.spoken, reference.program))
+        now = (run.gone(), run.spoken(), run.program())
+        self.assertEqual(now, (reference.gone, reference.spoken, reference.program))
         self.assertEqual(repr(run.records()), repr(reference.records()))
         counts = reference.plain.trace + [reference.plain.counts()]
         self.assertEqual([run.at(step) for step in range(run.steps() + 1)], counts)

@@ -45,7 +45,8 @@ class Loops(unittest.TestCase):
         self.assertEqual(plain.sayings(), (5, 1, 5, 2, "last", "end"))
 
     def test_in_a_deed_its_own_names_go(self):
-        plain = gone("(let x (= 0)) (say (call go ())) (say x)", "(go () ((each x (= [1 2 3]) ((if (same x (= 2)) ((tell x)) ())))))")
+        plain = gone("(let x (= 0)) (say (call go ())) (say x)",
+            "(go () ((each x (= [1 2 3]) ((if (same x (= 2)) ((tell x)) ())))))")
         self.assertEqual(plain.sayings(), (2, 0))
 
 
@@ -60,7 +61,8 @@ class Tries(unittest.TestCase):
         self.assertEqual(plain.sayings(), (1, 5, "last", 3, "last", "nought", "done"))
 
     def test_what_is_raised_may_be_any_worth(self):
-        self.assertEqual(gone("(try ((raise (new box ()))) (e ((let t e))) ())", kinds="(box - ())").cell("main", "t"), ("thing", 0))
+        self.assertEqual(gone("(try ((raise (new box ()))) (e ((let t e))) ())", kinds="(box - ())").cell("main", "t"),
+            ("thing", 0))
         self.assertEqual(gone("(try ((raise (= none))) (e ((say e))) ())").sayings(), (None,))
 
     def test_without_caught_it_goes_on_behind_last(self):
@@ -83,7 +85,8 @@ class Tries(unittest.TestCase):
             (eight () ((try ((tell (= 9))) - ((say (= 'eight'))))))
         """
         for name, worth in (
-            ("one", 2), ("two", 3), ("three", raised(4)), ("four", 5), ("five", 6), ("six", 7), ("seven", 8), ("eight", 9),
+            ("one", 2), ("two", 3), ("three", raised(4)), ("four", 5), ("five", 6), ("six", 7), ("seven", 8),
+            ("eight", 9),
         ):
             self.assertEqual(comes_to(f"(call {name} ())", deeds), worth, name)
         self.assertEqual(gone("(do (call six ())) (do (call eight ()))", deeds).sayings(), ("six", "eight"))
@@ -138,27 +141,35 @@ class Givers(unittest.TestCase):
     def test_runs(self):
         deeds = "(go () ((give b (= 5)) (try ((do (wake g (= 1)))) (e ((say e))) ()) (do (wake (far main g) (= 1)))))"
         self.assertEqual(
-            self.says("(let g (call go ())) (do (wake g (= 1))) (try ((do (wake g (= 2)))) (e ((say e))) ()) (do (wake g (= 3)))", deeds),
+            self.says("""
+                (let g (call go ())) (do (wake g (= 1)))
+                (try ((do (wake g (= 2)))) (e ((say e))) ()) (do (wake g (= 3)))
+            """, deeds),
             ("runs", "runs", raised("ended")),
         )
 
     def test_kind_of_what_is_no_giver(self):
         for worth in ("(= 1)", "(deed () ())", "(new box ())", "box", "go", "(= none)", "(= ['thing' 0])"):
-            self.assertEqual(self.says(f"(do (wake {worth} (= 1)))", "(go () ((give b (= 5))))", "(box - ())"), (raised("kind"),))
+            self.assertEqual(self.says(f"(do (wake {worth} (= 1)))", "(go () ((give b (= 5))))", "(box - ())"),
+                (raised("kind"),))
 
     def test_gives_in_loops(self):
         found = self.says("""
             (let g (call go ())) (let on (= yes))
             (while on ((let r (wake g (= 0))) (let on (at r (= 0))) (say (at r (= 1)))))
         """, """
-            (go () ((each x (= [1 2]) ((let y (= 0)) (while (less y (= 2)) ((let y (plus y (= 1))) (give b (row (x y)))))
+            (go () ((each x (= [1 2]) (
+              (let y (= 0)) (while (less y (= 2)) ((let y (plus y (= 1))) (give b (row (x y)))))
               (if (same x (= 2)) ((give b (= 'two'))) ()))) (tell (= 'end'))))
         """)
         self.assertEqual(found, (row(1, 1), row(1, 2), row(2, 1), row(2, 2), "two", "end"))
 
     def test_gives_in_tries_and_lasts(self):
         deeds = """
-            (go () ((each x (= [1 2]) ((try ((give b x) (raise (= 'a'))) (e ((give b e) (raise (= 'b')))) ((give b (= 'l')) (leave)))))
+            (go () (
+              (each x (= [1 2]) (
+                (try ((give b x) (raise (= 'a'))) (e ((give b e) (raise (= 'b')))) ((give b (= 'l')) (leave)))
+              ))
               (try ((tell (= 5))) - ((give b (= 'm')))) (say (= 'no'))))
         """
         found = self.says("(let g (call go ())) (each n (= [1 2 3 4 5]) ((say (wake g n))))", deeds)
@@ -195,13 +206,15 @@ class Givers(unittest.TestCase):
         self.assertEqual(
             self.frames("(try ((give a (= 1)) (raise a)) (e ((give a (= 2)))) ((give a (= 3))))", 4)[1:],
             [
-                ("gave", ((0, 0), (0,)), ()), ("gave", ((0, 1), (0,)), ()), ("gave", ((0, 2), (0,)), ((("on",),),)), ("ended",),
+                ("gave", ((0, 0), (0,)), ()), ("gave", ((0, 1), (0,)), ()), ("gave", ((0, 2), (0,)), ((("on",),),)),
+                ("ended",),
             ],
         )
 
     def test_ends_that_lasts_hold(self):
         for body, held in (
-            ("(tell (= 5))", ("told", 5)), ("(raise (= 6))", ("raised", 6)), ("(say (= 1))", ("on",)), ("(leave)", ("left",)),
+            ("(tell (= 5))", ("told", 5)), ("(raise (= 6))", ("raised", 6)), ("(say (= 1))", ("on",)),
+            ("(leave)", ("left",)),
         ):
             frames = self.frames(f"(each x (= [1]) ((try ({body}) - ((say (= 0)) (each y (= [2]) ((give a y)))))))", 1)
             self.assertEqual(frames[1], ("gave", ((0, 0), (0, 2), (1, 0), (0,)), (((1,), 0), (held,), ((2,), 0))), body)
@@ -212,14 +225,16 @@ class Givers(unittest.TestCase):
             ("(tell (= 5))", row(False, 5)), ("(raise (= 6))", raised(6)), ("(say (= 'x'))", row(False, "on")),
             ("(leave)", row(False, "left")),
         ):
-            self.assertEqual(comes_to("(wake g (= 1))", deeds.format(body), ahead="(let g (call go ())) (do (wake g (= 1)))"), found)
+            self.assertEqual(comes_to("(wake g (= 1))", deeds.format(body),
+                ahead="(let g (call go ())) (do (wake g (= 1)))"), found)
 
     def test_it_goes_on_in_loops_within_tries_and_lasts(self):
         loop = "(each x (= [1 2]) ((while (= yes) ((try ((give y x) (leave)) - ())))))"
         for deed, found in (
             (f"(try ({loop}) - ())", [1, 2, None]),
             (f"(try ((raise (= 0))) (e ({loop} (each z (= [5]) ((give y z))))) ())", [1, 2, 5, None]),
-            (f"(try () - ({loop} (each z (= [5]) ((try () - ((each y (= [6 7]) ((give y (row (z y))))))))))) (give y (= 8))",
+            (f"""(try () - ({loop} (each z (= [5]) ((try () - ((each y (= [6 7]) ((give y (row (z y)))))))))))
+                 (give y (= 8))""",
              [1, 2, row(5, 6), row(5, 7), 8, None]),
             (f"(each v (= [1 2]) ((try ((tell v)) - ({loop} (each z (= [5]) ((give y v)))))))", [1, 2, 1, 1]),
         ):
@@ -251,7 +266,10 @@ class Givers(unittest.TestCase):
         self.assertEqual(found, (row(True, 0), row(True, 10), row(True, 20), row(False, None)))
 
     def test_closures_and_kinds_deeds_may_be_givers(self):
-        rows = "(let t (new box ())) (let g (send t go ((= 4)))) (say (wake g (= 0))) (let f (deed (a) ((give x a)))) (say (wake (call f ((= 5))) (= 0)))"
+        rows = """
+            (let t (new box ())) (let g (send t go ((= 4)))) (say (wake g (= 0)))
+            (let f (deed (a) ((give x a)))) (say (wake (call f ((= 5))) (= 0)))
+        """
         found = self.says(rows, "", "(box - ((go (self n) ((put self n n) (give x (field self n))))))")
         self.assertEqual(found, (row(True, 4), row(True, 5)))
 
@@ -280,8 +298,10 @@ class Bounds(unittest.TestCase):
         ("(say (= 1))", 2), ("(let a (= 1))", 2), ("(do (row ((= 1) (= 2))))", 4), ("(do (plus (= 1) (= 2)))", 4),
         ("(do (deed () ((say (= 1)))))", 2), ("(if (= yes) ((say (= 1))) ())", 4), ("(if (= yes) () ((say (= 1))))", 2),
         ("(while (= no) ((say (= 1))))", 3), ("(each x (= []) ((say x)))", 2), ("(each x (= [1 2]) ((say x)))", 8),
-        ("(each x (= [1 2]) ())", 4), ("(while (= yes) ((leave)))", 4), ("(try () - ())", 1), ("(try ((raise (= 1))) (e ()) ())", 3),
-        ("(try ((raise (= 1))) (e ((say e))) ((say (= 1))))", 7), ("(do (call none ()))", 3), ("(do (call one ((= 1))))", 6),
+        ("(each x (= [1 2]) ())", 4), ("(while (= yes) ((leave)))", 4), ("(try () - ())", 1),
+        ("(try ((raise (= 1))) (e ()) ())", 3),
+        ("(try ((raise (= 1))) (e ((say e))) ((say (= 1))))", 7), ("(do (call none ()))", 3),
+        ("(do (call one ((= 1))))", 6),
         ("(do (call gives ()))", 3), ("(do (wake (call gives ()) (= 1)))", 7), ("(do (new box ()))", 3),
         ("(do (new tin ((= 1))))", 6), ("(put (new box ()) a (= 1))", 4), ("(say (has (new box ()) a))", 4),
         ("(let n (= 0)) (while (less n (= 2)) ((let n (plus n (= 1)))))", 2 + 1 + 4 + 4 + 4 + 4 + 4),
@@ -317,7 +337,8 @@ class Bounds(unittest.TestCase):
         with self.assertRaises(TooLong):
             gone("(while (= yes) ((try ((while (= yes) ())) (e ((leave))) ((leave)))))", most=50)
         with self.assertRaises(TooDeep):
-            gone("(try ((do (call go ()))) (e ((say e))) ((do (over (= 1) (= 0)))))", "(go () ((do (call go ()))))", deep=5)
+            gone("(try ((do (call go ()))) (e ((say e))) ((do (over (= 1) (= 0)))))", "(go () ((do (call go ()))))",
+                deep=5)
 
     def deep_ones(self):
         down = "(down (n) ((if (less (= 0) n) ((tell (call down ((minus n (= 1)))))) ())))"
@@ -350,7 +371,8 @@ class Bounds(unittest.TestCase):
         again = "(let g (call go ())) (do (wake g (= 1)))"
         self.assertEqual(gone(again, "(go () ((do (wake g (= 1))) (give x (= 1))))", deep=1).stand(), raised("runs"))
         ended = "(over () ((let h (call gives ())) (do (wake h (= 1))) (do (wake h (= 1))) (keep h h)))"
-        plain = gone("(do (call over ())) (do (call last ()))", ended + "(gives () ((give x (= 1)))) (last () ((do (wake (far main h) (= 1)))))", deep=2)
+        plain = gone("(do (call over ())) (do (call last ()))",
+            ended + "(gives () ((give x (= 1)))) (last () ((do (wake (far main h) (= 1)))))", deep=2)
         self.assertEqual(plain.stand(), raised("ended"))
 
     def test_too_deep_ahead_of_the_room(self):
@@ -377,7 +399,8 @@ class Bounds(unittest.TestCase):
         rows = f"(do {inner})"
         for frame in ("(try ({}) - ())", "(if (= yes) ({}) ())", "(each x (= [1]) ({}))"):
             rows = frame.format(rows)
-        plain = gone("(do (call go ((= 11))))", f"(go (n) ((if (less (= 0) n) ({rows}) ((say n)))))", most=5000, deep=12)
+        plain = gone("(do (call go ((= 11))))", f"(go (n) ((if (less (= 0) n) ({rows}) ((say n)))))", most=5000,
+            deep=12)
         self.assertEqual((plain.sayings(), plain.stand()), ((0,), ("ended",)))
 
     def test_five_thousand_steps(self):

@@ -31,8 +31,10 @@ class Held(unittest.TestCase):
     def test_what_was_read(self):
         record, = of_word("rows", self.CELLS + self.READS)
         for rows, held in (
-            (self.CELLS, ()), (self.CELLS + "(let z (= 1))", ()), ("(let b (= [yes 2])) (let a (= 1))", ()), ("(let a (= 1))", None),
-            (self.CELLS + "(let a (= 2))", None), (self.CELLS + "(let a (= yes))", None), (self.CELLS + "(let b (= [1 2]))", None),
+            (self.CELLS, ()), (self.CELLS + "(let z (= 1))", ()), ("(let b (= [yes 2])) (let a (= 1))", ()),
+            ("(let a (= 1))", None),
+            (self.CELLS + "(let a (= 2))", None), (self.CELLS + "(let a (= yes))", None),
+            (self.CELLS + "(let b (= [1 2]))", None),
             (self.CELLS + "(let b (= [yes 2 3]))", None), (self.CELLS + "(let c (= none))", None), ("", None),
             (self.CELLS + "(let b (= ['yes' 2]))", None),
         ):
@@ -42,8 +44,10 @@ class Held(unittest.TestCase):
         record, = of_word("deed", "(do (call go ((= 1) (= [yes]))))", "(go (a b) ((tell a)))")
         plain = plain_of("(let t (new box ((= 1))))", "", KINDS)
         for handed, held in (
-            ((None, (1, ("row", (True,)))), ()), ((None, (2, ("row", (True,)))), None), ((None, (True, ("row", (True,)))), None),
-            ((None, (1, ("row", (1,)))), None), ((None, (1,)), None), ((None, (1, ("row", (True,)), 1)), None), ((0, (1, ("row", (True,)))), None),
+            ((None, (1, ("row", (True,)))), ()), ((None, (2, ("row", (True,)))), None),
+            ((None, (True, ("row", (True,)))), None),
+            ((None, (1, ("row", (1,)))), None), ((None, (1,)), None), ((None, (1, ("row", (True,)), 1)), None),
+            ((0, (1, ("row", (True,)))), None),
             ((None, (("thing", 0), ("row", (True,)))), None), ((None, ()), None),
         ):
             self.assertEqual(held_by(record, plain, handed), held, handed)
@@ -59,12 +63,14 @@ class Held(unittest.TestCase):
         self.assertIsNone(held_by(record, plain, (None, (("thing", 4), ("thing", 2)))))
         self.assertIsNone(held_by(record, plain, (None, (("thing", 0), ("thing", 4)))))
         # The field of u is one thing more that is led, where t isn't the one in it.
-        record, = of_word("deed", "(let t (new box ((= 1)))) (let u (new box (t))) (do (call go (u)))", "(go (u) ((tell (field u a))))", KINDS)[-1:]
+        record, = of_word("deed", "(let t (new box ((= 1)))) (let u (new box (t))) (do (call go (u)))",
+            "(go (u) ((tell (field u a))))", KINDS)[-1:]
         self.assertEqual(held_by(record, plain, (None, (("thing", 4),))), ((0, 0), (2, 4)))
         self.assertIsNone(held_by(record, plain, (None, (("thing", 2),))))
 
     def test_what_it_makes_isnt_in_the_map(self):
-        record, = of_word("deed", "(do (new box ((= 1)))) (do (call go ()))", "(go () ((tell (new box ((= 1))))))", KINDS)[1:2]
+        record, = of_word("deed", "(do (new box ((= 1)))) (do (call go ()))", "(go () ((tell (new box ((= 1))))))",
+            KINDS)[1:2]
         self.assertEqual([effect[1] for effect in record[3] if effect[0] == "make"], [2, 3, 4])
         self.assertIsNone(held_by(record, plain_of("", "", "(box - ())"), (None, ())))
         self.assertEqual(held_by(record, plain_of("(do (deed () ()))", "", KINDS), (None, ())), ())
@@ -75,7 +81,8 @@ class Held(unittest.TestCase):
         two, = of_word("deed", "(do (call go ((new box ()) (new box ()))))", deeds, "(box - ())")
         plain = plain_of("(do (new box ())) (do (new box ()))", deeds, "(box - ())")
         for record, worths, held in (
-            (one, (0, 0), ((0, 0),)), (one, (1, 1), ((0, 1),)), (one, (0, 1), None), (two, (0, 1), ((0, 0), (1, 1))), (two, (1, 0), ((0, 1), (1, 0))),
+            (one, (0, 0), ((0, 0),)), (one, (1, 1), ((0, 1),)), (one, (0, 1), None), (two, (0, 1), ((0, 0), (1, 1))),
+            (two, (1, 0), ((0, 1), (1, 0))),
             (two, (1, 1), None),
         ):
             self.assertEqual(held_by(record, plain, (None, tuple(("thing", k) for k in worths))), held)
@@ -102,11 +109,12 @@ class Held(unittest.TestCase):
         deeds = "(go (r) ((each x r ((give y x)))))"
         rows = "(let t (new box ())) (let g (call go ((row ((= 1) t))))) (do (wake g (= 0))) (do (wake g (= 7)))"
         first, second = of_word("wake", rows, deeds, "(box - ())")
-        plain = plain_of("(do (new box ())) (let t (new box ())) (let g (call go ((row ((= 1) t))))) (do (wake g (= 0)))", deeds, "(box - ())")
+        begun = "(let t (new box ())) (let g (call go ((row ((= 1) t)))))"
+        plain = plain_of(f"(do (new box ())) {begun} (do (wake g (= 0)))", deeds, "(box - ())")
         self.assertEqual(held_by(second, plain, (3, 7)), ((0, 1), (1, 2), (2, 3)))
         self.assertIsNone(held_by(second, plain, (3, 8)))
         self.assertIsNone(held_by(first, plain, (3, 0)))
-        new = plain_of("(let t (new box ())) (let g (call go ((row ((= 1) t)))))", deeds, "(box - ())")
+        new = plain_of(begun, deeds, "(box - ())")
         self.assertEqual(held_by(first, new, (2, 0)), ((0, 0), (1, 1), (2, 2)))
         self.assertIsNone(held_by(second, new, (2, 7)))
         other = plain_of("(let g (call go ((= [1 2])))) (do (wake g (= 0)))", deeds)
@@ -126,13 +134,15 @@ class Held(unittest.TestCase):
     def test_wells(self):
         record, = of_word("rows", "(if (= yes) ((say (ask w))) ())", told=(("w", 5),))
         for wells, held in (
-            ((), None), ((("w", (5,)),), ()), ((("w", (6,)),), None), ((("w", (5, 6)),), ()), ((("v", (5,)),), None), ((("w", ()),), None),
+            ((), None), ((("w", (5,)),), ()), ((("w", (6,)),), None), ((("w", (5, 6)),), ()), ((("v", (5,)),), None),
+            ((("w", ()),), None),
         ):
             self.assertEqual(held_by(record, Plain(program_of("(say (= 1))"), wells), (None, None)), held)
         self.assertIsNone(held_by(record, Plain(program_of("(do (ask w))"), (("w", (5, 5)),)), (None, None)))
 
     def test_deeds_and_chains(self):
-        record, = of_word("rows", "(if (= yes) ((do (call go ())) (do (new box ((= 1))))) ())", "(go () ())", KINDS)[-1:]
+        record, = of_word("rows", "(if (= yes) ((do (call go ())) (do (new box ((= 1))))) ())", "(go () ())",
+            KINDS)[-1:]
         self.assertEqual(held_by(record, plain_of("", "(go () ()) (no () ())", KINDS), (None, None)), ())
         self.assertIsNone(held_by(record, plain_of("", "(go () ((do (= 1))))", KINDS), (None, None)))
         self.assertIsNone(held_by(record, plain_of("", "(go () ())", "(box - ())"), (None, None)))
@@ -151,7 +161,8 @@ class Held(unittest.TestCase):
         record, = of_word("deed", "(do (call go ()))", "(go () ())")
         deeds = "(waits () ((do (ask w)))) (more () ((do (call waits ()))))"
         for rows, deep, held in (
-            ("(do (ask w))", 1, ()), ("(do (ask w))", 0, None), ("(do (call waits ()))", 2, ()), ("(do (call waits ()))", 1, None),
+            ("(do (ask w))", 1, ()), ("(do (ask w))", 0, None), ("(do (call waits ()))", 2, ()),
+            ("(do (call waits ()))", 1, None),
             ("(do (call more ()))", 3, ()), ("(do (call more ()))", 2, None),
         ):
             self.assertEqual(held_by(record, plain_of(rows, deeds, deep=deep), (None, ())), held, (rows, deep))
@@ -169,7 +180,8 @@ class Held(unittest.TestCase):
         self.assertIsNone(held_by(found["turn"], plain, (0, 5)))
 
     def test_nothing_is_changed(self):
-        record, = of_word("deed", "(do (call go ()))", "(go () ((keep a (= 1)) (say (= 2)) (do (new box ()))))", "(box - ())")
+        record, = of_word("deed", "(do (call go ()))", "(go () ((keep a (= 1)) (say (= 2)) (do (new box ()))))",
+            "(box - ())")
         plain = plain_of("(let a (= 5))", "", "(box - ())")
         self.assertEqual(held_by(record=record, plain=plain, handed=(None, ())), ())
         self.assertEqual((plain.cell("main", "a"), plain.sayings(), plain.things(), plain.steps()), (5, (), 0, 2))

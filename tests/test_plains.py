@@ -78,7 +78,8 @@ class Words(unittest.TestCase):
     def test_join(self):
         self.check((
             ("(join (= 'ab') (= 'c'))", "abc"), ("(join (= '') (= ''))", ""),
-            (f"(join (= '{'a' * 19}') (= 'b'))", "a" * 19 + "b"), (f"(join (= '{'a' * 19}') (= 'bc'))", raised("great")),
+            (f"(join (= '{'a' * 19}') (= 'b'))", "a" * 19 + "b"),
+            (f"(join (= '{'a' * 19}') (= 'bc'))", raised("great")),
             ("(join (= [1]) (= [yes 'a']))", row(1, True, "a")), ("(join (= []) (= []))", row()),
             ("(join (= 'a') (= ['a']))", raised("kind")), ("(join (= []) (= ''))", raised("kind")),
             (f"(join (= [{' '.join(['1'] * 39)}]) (= [2]))", row(*[1] * 39, 2)),
@@ -92,7 +93,8 @@ class Words(unittest.TestCase):
 
     def test_at(self):
         self.check((
-            ("(at (= [5 yes]) (= 0))", 5), ("(at (= [5 yes]) (= 1))", True), ("(at (= [5 yes]) (= 2))", raised("beyond")),
+            ("(at (= [5 yes]) (= 0))", 5), ("(at (= [5 yes]) (= 1))", True),
+            ("(at (= [5 yes]) (= 2))", raised("beyond")),
             ("(at (= [5 yes]) (= -1))", raised("beyond")), ("(at (= []) (= 0))", raised("beyond")),
             ("(at (= [5 yes]) (= yes))", raised("kind")), ("(at (= 'ab') (= 0))", raised("kind")),
             (f"(at (= [5]) (= {GREATEST}))", raised("beyond")),
@@ -158,7 +160,8 @@ class Rows(unittest.TestCase):
     def test_a_row_of_two_hundred_worths_in_all_and_of_one_more(self):
         # Four rows of forty and themselves, the outermost one, and 35 more.
         forty = "(let r (= [" + " ".join(["0"] * 40) + "]))"
-        self.assertEqual(comes_to("(join (row (r r r r)) s)", ahead=forty + self.of(35)), row(*[row(*[0] * 40)] * 4, *[0] * 35))
+        self.assertEqual(comes_to("(join (row (r r r r)) s)", ahead=forty + self.of(35)),
+            row(*[row(*[0] * 40)] * 4, *[0] * 35))
         self.assertEqual(comes_to("(join (row (r r r r)) s)", ahead=forty + self.of(36)), raised("great"))
         self.assertEqual(comes_to("(row (r r r r (= 0) (= 0)))", ahead=forty), row(*[row(*[0] * 40)] * 4, 0, 0))
         self.assertEqual(comes_to("(row (r r r r r))", ahead=forty), raised("great"))
@@ -214,7 +217,8 @@ class Names(unittest.TestCase):
         more = ("(module aux ((go () ((tell (= 5))))) ((tin - ())) ((let a (= 1))))",)
         for text, worth in (
             ("(far aux go)", ("deed", "aux", "go")), ("(far aux tin)", ("kind", "aux", "tin")), ("(far aux a)", 1),
-            ("(far aux b)", raised("lacks")), ("(far no a)", raised("lacks")), ("(far main gives)", ("deed", "main", "gives")),
+            ("(far aux b)", raised("lacks")), ("(far no a)", raised("lacks")),
+            ("(far main gives)", ("deed", "main", "gives")),
             ("box", ("kind", "main", "box")), ("go", ("deed", "main", "go")), ("aux", raised("lacks")),
             ("it", raised("lacks")), ("(far main it)", raised("lacks")), ("(call (far aux go) ())", 5),
         ):
@@ -243,7 +247,8 @@ class Calls(unittest.TestCase):
             self.assertEqual(found, None if sort in ("deed", "closure") else raised("kind"), sort)
 
     def test_a_call_ends_just_the_deed(self):
-        plain = gone("(each x (= [1 2]) ((say (call go (x))) (say (= 'b'))))", "(go (n) ((each y (= [1 2]) ((tell n)))))")
+        plain = gone("(each x (= [1 2]) ((say (call go (x))) (say (= 'b'))))",
+            "(go (n) ((each y (= [1 2]) ((tell n)))))")
         self.assertEqual(plain.sayings(), (1, "b", 2, "b"))
 
     def test_recursion(self):
@@ -267,7 +272,9 @@ class Calls(unittest.TestCase):
 
 class Things(unittest.TestCase):
     KINDS = """
-        (base - ((make (self a) ((put self a a))) (name (self) ((tell (= 'base')))) (twice (self n) ((tell (times n (= 2)))))))
+        (base - (
+            (make (self a) ((put self a a))) (name (self) ((tell (= 'base')))) (twice (self n) ((tell (times n (= 2)))))
+        ))
         (kid main:base ((name (self) ((tell (= 'kid'))))))
         (odd main:gone ())
         (ring main:rong ((a (self) ((tell (= 1))))))
@@ -277,7 +284,8 @@ class Things(unittest.TestCase):
     def test_fields_their_order_and_what_puts_them_out(self):
         plain = gone("""
             (let t (new box ())) (put t b (= 1)) (put t a (= 2)) (put t b (= 3)) (say (fields t))
-            (out t b) (say (fields t)) (put t b (= 4)) (say (fields t)) (say (field t b)) (say (has t b)) (say (has t c))
+            (out t b) (say (fields t)) (put t b (= 4)) (say (fields t))
+            (say (field t b)) (say (has t b)) (say (has t c))
         """, kinds=KINDS)
         self.assertEqual(plain.sayings(), (row("b", "a"), row("a"), row("a", "b"), 4, True, False))
         self.assertEqual(plain.thing(0), (("kind", "main", "box"), (("a", 2), ("b", 4))))
@@ -286,28 +294,33 @@ class Things(unittest.TestCase):
 
     def test_a_field_that_was_put_out_isnt_there(self):
         plain = gone("(let t (new box ())) (put t b (= 1)) (out t b) (say (has t b)) (do (field t b))", kinds=KINDS)
-        self.assertEqual((plain.sayings(), plain.stand(), plain.there(("field", 0, "b"))), ((False,), raised("lacks"), ()))
+        self.assertEqual((plain.sayings(), plain.stand(), plain.there(("field", 0, "b"))),
+            ((False,), raised("lacks"), ()))
 
     def test_lacks(self):
         for text in ("(do (field t c))", "(out t c)", "(do (send t no ()))"):
             plain = gone("(let t (new box ())) (put t b (= 1))" + text, kinds=KINDS)
             self.assertEqual(plain.stand(), raised("lacks"), text)
-        self.assertEqual(gone("(let t (new box ())) (put t b (= 1)) (out t b) (out t b)", kinds=KINDS).stand(), raised("lacks"))
+        self.assertEqual(gone("(let t (new box ())) (put t b (= 1)) (out t b) (out t b)", kinds=KINDS).stand(),
+            raised("lacks"))
 
     def test_kind_of_what_is_no_thing_of_a_kind(self):
         for row_text in (
-            "(do (field {} a))", "(do (has {} a))", "(do (fields {}))", "(put {} a (= 1))", "(out {} a)", "(do (send {} a ()))",
+            "(do (field {} a))", "(do (has {} a))", "(do (fields {}))", "(put {} a (= 1))", "(out {} a)",
+            "(do (send {} a ()))",
         ):
             for sort, text in SORTS.items():
                 stand = gone(row_text.format(text), DEEDS, KINDS).stand()
                 self.assertEqual(stand == raised("kind"), sort != "thing", (row_text, sort))
 
     def test_what_is_put_and_its_thing_are_gone_ahead_of_kind(self):
-        for text in ("(put (= 1) a (ask w))", "(do (wake (= 1) (ask w)))", "(do (send (= 1) a ((ask w))))", "(do (new (= 1) ((ask w))))"):
+        for text in ("(put (= 1) a (ask w))", "(do (wake (= 1) (ask w)))", "(do (send (= 1) a ((ask w))))",
+            "(do (new (= 1) ((ask w))))"):
             self.assertEqual(gone(text).stand(), ("waits", "w"), text)
 
     def test_new_with_make_from_above(self):
-        plain = gone("(let t (new kid ((= 5)))) (say (field t a)) (say (send t name ())) (say (send t twice ((= 4))))", kinds=self.KINDS)
+        plain = gone("(let t (new kid ((= 5)))) (say (field t a)) (say (send t name ())) (say (send t twice ((= 4))))",
+            kinds=self.KINDS)
         self.assertEqual(plain.sayings(), (5, "kid", 8))
         self.assertEqual(plain.thing(0), (("kind", "main", "kid"), (("a", 5),)))
 
@@ -340,7 +353,8 @@ class Things(unittest.TestCase):
 
     def test_chains(self):
         for kind, name, deed in (
-            ("kid", "name", True), ("kid", "twice", True), ("kid", "no", False), ("odd", "name", False), ("ring", "a", True),
+            ("kid", "name", True), ("kid", "twice", True), ("kid", "no", False), ("odd", "name", False),
+            ("ring", "a", True),
             ("rong", "a", True), ("ring", "b", False), ("rong", "b", False), ("no", "a", False),
         ):
             plain = gone(kinds=self.KINDS)
@@ -355,13 +369,15 @@ class Things(unittest.TestCase):
 
     def test_send_with_others_than_the_deed_takes(self):
         for es in ("", "(= 1) (= 2)"):
-            self.assertEqual(gone(f"(do (send (new kid ((= 1))) twice ({es})))", kinds=self.KINDS).stand(), raised("many"))
+            self.assertEqual(gone(f"(do (send (new kid ((= 1))) twice ({es})))", kinds=self.KINDS).stand(),
+                raised("many"))
 
     def test_fields_of_forty_and_of_one_more(self):
         names = [one + other for one in "abcdef" for other in "abcdefg"]
         rows = "(let t (new box ()))" + "".join(f"(put t {name} (= 1))" for name in names[:40])
         self.assertEqual(gone(rows + "(say (size (fields t)))", kinds=KINDS).sayings(), (40,))
-        self.assertEqual(gone(rows + f"(put t {names[40]} (= 1)) (do (fields t))", kinds=KINDS).stand(), raised("great"))
+        self.assertEqual(gone(rows + f"(put t {names[40]} (= 1)) (do (fields t))", kinds=KINDS).stand(),
+            raised("great"))
 
 
 class Sayings(unittest.TestCase):
@@ -383,7 +399,8 @@ class Tellers(unittest.TestCase):
     @classmethod
     def setUpClass(cls):
         cls.program = program_of("""
-            (let b (= 1)) (let a (new box ())) (let b (= 2)) (let f (deed () ())) (let g (call gives ())) (do (call go ()))
+            (let b (= 1)) (let a (new box ())) (let b (= 2))
+            (let f (deed () ())) (let g (call gives ())) (do (call go ()))
             (do (wake g (= none))) (let c (ask w)) (do (ask w)) (do (ask v))
         """, DEEDS, KINDS, ("(module aux () () ())",))
         cls.plain = Plain(cls.program, (("u", (1,)), ("v", ()), ("w", (5, ("row", (6,))))))
@@ -438,13 +455,17 @@ class Tellers(unittest.TestCase):
             (("field", 0, "a"), ()), (("names", 0), ((),)), (("names", 1), ()), (("names", 2), ()), (("names", 9), ()),
             (("sort", 0), (("kind", "main", "box"),)), (("sort", 1), (("closure",),)), (("sort", 2), (("room",),)),
             (("sort", 3), (("giver",),)), (("sort", 5), ()),
-            (("up", 0), ()), (("up", 1), ((((), ()), None),)), (("up", 2), (None,)), (("up", 3), ((gives, 2),)), (("up", 5), ()),
+            (("up", 0), ()), (("up", 1), ((((), ()), None),)), (("up", 2), (None,)), (("up", 3), ((gives, 2),)),
+            (("up", 5), ()),
             (("frame", 0), ()), (("frame", 2), ()), (("frame", 3), (("gave", ((0,),), ()),)), (("frame", 5), ()),
             (("cell", "main", "b"), (2,)), (("cell", "main", "go"), (("deed", "main", "go"),)),
-            (("cell", "main", "box"), (("kind", "main", "box"),)), (("cell", "main", "d"), ()), (("cell", "no", "b"), ()),
+            (("cell", "main", "box"), (("kind", "main", "box"),)), (("cell", "main", "d"), ()),
+            (("cell", "no", "b"), ()),
             (("deed", "main", "gives"), (gives,)), (("deed", "main", "box"), ()), (("deed", "main", "b"), ()),
-            (("chain", "main", "box", "make"), ()), (("asked", "w"), (2,)), (("asked", "u"), (0,)), (("asked", "no"), (0,)),
-            (("told", "w", 0), (5,)), (("told", "w", 1), (("row", (6,)),)), (("told", "w", 2), ()), (("told", "u", 0), (1,)),
+            (("chain", "main", "box", "make"), ()), (("asked", "w"), (2,)), (("asked", "u"), (0,)),
+            (("asked", "no"), (0,)),
+            (("told", "w", 0), (5,)), (("told", "w", 1), (("row", (6,)),)), (("told", "w", 2), ()),
+            (("told", "u", 0), (1,)),
             (("told", "v", 0), ()), (("told", "no", 0), ()),
         ):
             self.assertEqual(self.plain.there(place), was, place)
@@ -454,8 +475,10 @@ class Tellers(unittest.TestCase):
         for thing in things:
             for place in (
                 thing, ("field", thing, "a"), ("field", 0, thing), ("names", thing), ("sort", thing), ("up", thing),
-                ("frame", thing), ("cell", thing, "b"), ("cell", "main", thing), ("deed", "main", thing), ("told", "w", thing),
-                ("chain", "main", thing, "make"), ("told", thing, 0), (thing, "main", "a"), ("cells", thing), ["sort", 0],
+                ("frame", thing), ("cell", thing, "b"), ("cell", "main", thing), ("deed", "main", thing),
+                ("told", "w", thing),
+                ("chain", "main", thing, "make"), ("told", thing, 0), (thing, "main", "a"), ("cells", thing),
+                ["sort", 0],
                 ("field", 0, "a", thing), ("sort", 0, thing), ("asked", "w", thing),
             ):
                 if place not in (
@@ -478,7 +501,8 @@ class Tellers(unittest.TestCase):
 
 class Modules(unittest.TestCase):
     def test_they_are_gone_by_names_but_main_last(self):
-        more = ("(module a () () ((say (= 'a'))))", "(module z () () ((say (= 'z')) (say (far a b))))", "(module n () () ())")
+        more = ("(module a () () ((say (= 'a'))))", "(module z () () ((say (= 'z')) (say (far a b))))",
+            "(module n () () ())")
         plain = gone("(say (= 'main'))", more=more)
         self.assertEqual((plain.sayings(), plain.stand()), (("a", "z"), raised("lacks")))
 
@@ -487,7 +511,8 @@ class Modules(unittest.TestCase):
         self.assertEqual((plain.sayings(), plain.stand(), plain.cells("a")), ((), ("raised", 5), ("b",)))
 
     def test_led_rows_are_what_is_gone(self):
-        self.assertEqual(led_rows("main", (("let", "a", ("name", "b")),)), (("let", ("cell", "main", "a"), ("cell", "main", "b")),))
+        self.assertEqual(led_rows("main", (("let", "a", ("name", "b")),)),
+            (("let", ("cell", "main", "a"), ("cell", "main", "b")),))
 
 
 if __name__ == "__main__":

@@ -34,7 +34,8 @@ CALL = (
     ("told", 5), 6, 1,
 )
 # A waking of a giver that gave in an each, in a last.
-GIVER = (("n",), (("each", own("x"), own("n"), (("try", (("leave",),), None, (("say", own("x")), ("give", own("y"), own("x")))),)),))
+GIVER = (("n",), (("each", own("x"), own("n"),
+    (("try", (("leave",),), None, (("say", own("x")), ("give", own("y"), own("x")))),)),))
 HELD = ("gave", ((0, 0), (0, 2), (1,)), (((7, thing(2)), 0), (("on",),)))
 GAVE = ("gave", ((0, 0), (0, 2), (1,)), (((7, thing(2)), 0), (("left",),)))
 WAKE = (
@@ -49,14 +50,17 @@ WAKE = (
 # A turn of an each that calls a closure, asks, and calls around.
 INNER = (("b",), (("tell", ("word", "plus", (own("b"), ("around", 1, "n")))),))
 TURN = (
-    ("turn", ("each", own("x"), own("r"), (("say", ("call", own("f"), (own("x"),))), ("say", ("ask", "w")), ("leave",)))),
+    ("turn", ("each", own("x"), own("r"),
+        (("say", ("call", own("f"), (own("x"),))), ("say", ("ask", "w")), ("leave",)))),
     (0, 5),
     (
-        (("field", 0, "f"), (thing(9),)), (("sort", 9), (("closure",),)), (("up", 9), ((INNER, 4),)), (("field", 4, "n"), (2,)),
+        (("field", 0, "f"), (thing(9),)), (("sort", 9), (("closure",),)), (("up", 9), ((INNER, 4),)),
+        (("field", 4, "n"), (2,)),
         (("asked", "w"), (3,)), (("told", "w", 3), (True,)),
     ),
     (
-        ("field", 0, "x", 5), ("make", 10, ("room",), 4), ("field", 10, "b", 5), ("say", 7), ("asked", "w", 4), ("say", True),
+        ("field", 0, "x", 5), ("make", 10, ("room",), 4), ("field", 10, "b", 5), ("say", 7), ("asked", "w", 4),
+        ("say", True),
     ),
     ("left",), 12, 1,
 )
@@ -70,10 +74,12 @@ class Good(unittest.TestCase):
     def test_others_numbers_of_things(self):
         record = (
             CALL[0], (8, (thing(0), 5)), ((("sort", 0), (BOX,)), (("names", 0), ((),))),
-            (("make", 90, ("room",), 8), ("field", 90, "t", thing(0)), ("field", 90, "n", 5), ("field", 0, "a", 5)), ("told", 5), 6, 1,
+            (("make", 90, ("room",), 8), ("field", 90, "t", thing(0)), ("field", 90, "n", 5), ("field", 0, "a", 5)),
+            ("told", 5), 6, 1,
         )
         self.assertTrue(record_holds(record))
-        for k, is_so in ((0, False), (7, False), (8, False), (9, True), (10 ** 15, True), (10 ** 30, True), (-1, False), (True, False), ("9", False)):
+        for k, is_so in ((0, False), (7, False), (8, False), (9, True), (10 ** 15, True), (10 ** 30, True), (-1, False),
+            (True, False), ("9", False)):
             effects = tuple(effect[:1] + (k if effect[1] == 90 else effect[1],) + effect[2:] for effect in record[3])
             self.assertIs(record_holds(with_part(record, 3, effects)), is_so, k)
 
@@ -87,19 +93,24 @@ class Good(unittest.TestCase):
 
     def test_names_led_in_any_way(self):
         """Which one of those that lead outwards it is isn't looked at."""
-        rows = (("let", ("cell", "a", "b"), ONE), ("let", own("b"), ONE), ("each", ("cell", "a", "b"), ("worth", row()), ()))
+        rows = (("let", ("cell", "a", "b"), ONE), ("let", own("b"), ONE),
+            ("each", ("cell", "a", "b"), ("worth", row()), ()))
         effects = (("cell", "a", "b", 1), ("field", 2, "b", 1))
         self.assertTrue(record_holds((("rows", rows), (2, None), (), effects, ("on",), 6, 0)))
-        within = ("deed", ("a",), (("tell", ("around", 12, "zz")), ("give", own("q"), own("no")), ("let", ("cell", "x", "y"), own("a"))))
+        within = ("deed", ("a",),
+            (("tell", ("around", 12, "zz")), ("give", own("q"), own("no")), ("let", ("cell", "x", "y"), own("a"))))
         effects = (("make", 3, ("closure",), (within[1:], 2)),)
         self.assertTrue(record_holds((("rows", (("do", within),)), (2, None), (), effects, ("on",), 2, 0)))
-        self.assertTrue(record_holds((("module", (("do", within),)), (), (), (("make", 0, ("closure",), (within[1:], None)),), ("on",), 2, 0)))
+        self.assertTrue(record_holds((("module", (("do", within),)), (), (),
+            (("make", 0, ("closure",), (within[1:], None)),), ("on",), 2, 0)))
 
 
 class Runs(unittest.TestCase):
     PROGRAM = program_of("""
         (let t (new box ((= 1)))) (let g (call gives ((= [1 2])))) (let f (call made ((= 5))))
-        (each x (= [1 'a' yes]) ((try ((say (plus x (field t a))) (put t b x) (out t b)) (e ((say e))) ((do (fields t))))))
+        (each x (= [1 'a' yes]) (
+            (try ((say (plus x (field t a))) (put t b x) (out t b)) (e ((say e))) ((do (fields t))))
+        ))
         (while (at (wake g (= 7)) (= 0)) ((say (call f ()))))
         (if (same t t) ((say (ask w))) ()) (say (send t get ((= 3)))) (let n (= 0))
         (while (less n (= 3)) ((let n (plus n (= 1))) (if (same n (= 2)) ((leave)) ())))
@@ -130,8 +141,10 @@ class Runs(unittest.TestCase):
                     found = with_part(record, 3, effects[:k] + others + effects[k + 1:])
                     self.assertFalse(record_holds(found), (record, k, others))
                 if k and effect != effects[k - 1]:
-                    self.assertFalse(record_holds(with_part(record, 3, effects[:k - 1] + (effect, effects[k - 1]) + effects[k + 1:])))
-            for other in (("on",), ("told", 77), ("raised", 77), ("left",), ("over",), ("gave", 77), (), None, ("told",), ["on"], "on"):
+                    self.assertFalse(record_holds(with_part(record, 3,
+                        effects[:k - 1] + (effect, effects[k - 1]) + effects[k + 1:])))
+            for other in (("on",), ("told", 77), ("raised", 77), ("left",), ("over",), ("gave", 77), (), None,
+                ("told",), ["on"], "on"):
                 if other != end:
                     self.assertFalse(record_holds(with_part(record, 4, other)))
             for other in (steps + 1, steps - 1, -1, 5001, None, "1", float(steps), (steps,)):
@@ -144,10 +157,13 @@ class Runs(unittest.TestCase):
             reads = record[2]
             for k, read in enumerate(reads):
                 place, was = read
-                for others in ((), (read, read), ((place,),), ((place, was, was),), ((place, list(was)),), (list(read),), ((place, was + was),)):
+                for others in ((), (read, read), ((place,),), ((place, was, was),), ((place, list(was)),),
+                    (list(read),), ((place, was + was),)):
                     if others != (read,):
-                        self.assertFalse(record_holds(with_part(record, 2, reads[:k] + others + reads[k + 1:])), (record, k, others))
-                self.assertFalse(record_holds(with_part(record, 2, reads[:k] + reads[k + 1:] + (read,))) and k < len(reads) - 1)
+                        self.assertFalse(record_holds(with_part(record, 2, reads[:k] + others + reads[k + 1:])),
+                            (record, k, others))
+                self.assertFalse(record_holds(with_part(record, 2,
+                    reads[:k] + reads[k + 1:] + (read,))) and k < len(reads) - 1)
             for more in ((("cell", "main", "zz"), ()), (("sort", 0), (BOX,)), (("asked", "zz"), (0,))):
                 self.assertFalse(record_holds(with_part(record, 2, reads + (more,))))
                 self.assertFalse(record_holds(with_part(record, 2, (more,) + reads)))
@@ -176,19 +192,26 @@ class Otherwise(unittest.TestCase):
         """Any one part of these counts, but for a few by which just the same would be done."""
         others = (None, True, 0, 1, 77, "zz", (), ("zz",), thing(77), ("leave",))
         for record, many in ((CALL, 4), (WAKE, 7), (TURN, 1)):
-            so = {repr(changed) for changed in put_otherwise(record, others) if changed != record and record_holds(changed)}
+            so = {repr(changed) for changed in put_otherwise(record,
+                others) if changed != record and record_holds(changed)}
             self.assertEqual(len(so), many, sorted(so))
 
     def test_a_call(self):
         text, handed, reads, effects, end, steps, deep = CALL
         for changed in (
-            with_part(CALL, 1, (None, (thing(3),))), with_part(CALL, 1, (None, (thing(3), 5, 5))), with_part(CALL, 1, (None, (thing(2), 5))),
-            with_part(CALL, 1, (None, (thing(3), 6))), with_part(CALL, 1, (2, (thing(3), 5))), with_part(CALL, 1, (None,)),
-            with_part(CALL, 1, (True, (thing(3), 5))), with_part(CALL, 1, (None, (thing(3), ("thing", -1)))), with_part(CALL, 1, ()),
-            with_part(CALL, 0, ("wake",) + text[1:]), with_part(CALL, 0, ("turn",) + text[1:]), with_part(CALL, 0, text + (1,)),
-            with_part(CALL, 2, (reads[0], (("names", 3), (("a", "a"),)))), with_part(CALL, 2, (reads[0], (("names", 3), (("A",),)))),
+            with_part(CALL, 1, (None, (thing(3),))), with_part(CALL, 1, (None, (thing(3), 5, 5))), with_part(CALL, 1,
+                (None, (thing(2), 5))),
+            with_part(CALL, 1, (None, (thing(3), 6))), with_part(CALL, 1, (2, (thing(3), 5))), with_part(CALL, 1,
+                (None,)),
+            with_part(CALL, 1, (True, (thing(3), 5))), with_part(CALL, 1,
+                (None, (thing(3), ("thing", -1)))), with_part(CALL, 1, ()),
+            with_part(CALL, 0, ("wake",) + text[1:]), with_part(CALL, 0, ("turn",) + text[1:]), with_part(CALL, 0,
+                text + (1,)),
+            with_part(CALL, 2, (reads[0], (("names", 3), (("a", "a"),)))), with_part(CALL, 2,
+                (reads[0], (("names", 3), (("A",),)))),
             with_part(CALL, 2, (reads[0], (("names", 3), ()))), with_part(CALL, 2, ((("sort", 3), ()), reads[1])),
-            with_part(CALL, 2, ((("sort", 3), (("deed", "main", "box"),)), reads[1])), with_part(CALL, 2, ((("sort", 3), (("closure",),)), reads[1])),
+            with_part(CALL, 2, ((("sort", 3), (("deed", "main", "box"),)), reads[1])), with_part(CALL, 2,
+                ((("sort", 3), (("closure",),)), reads[1])),
             with_part(CALL, 2, reads[::-1]), CALL[:6], CALL + (1,),
         ):
             self.assertFalse(record_holds(changed), changed)
@@ -200,19 +223,26 @@ class Otherwise(unittest.TestCase):
         text, handed, reads, effects, end, steps, deep = WAKE
         frame, up = reads
         for held, is_so in (
-            (GAVE, False), (("new",), False), (("going",), False), (("ended",), False), (("gave", (), ()), False), (("gave", ((0,),), ()), False),
+            (GAVE, False), (("new",), False), (("going",), False), (("ended",), False), (("gave", (), ()), False),
+            (("gave", ((0,),), ()), False),
             (("gave", ((0, 0), (0, 2), (0,)), HELD[2]), False), (("gave", ((0, 0), (0, 0), (0,)), HELD[2]), False),
             (("gave", ((0, 0), (0, 1), (1,)), HELD[2]), False), (("gave", ((0, 1), (0, 2), (1,)), HELD[2]), False),
-            (("gave", ((1, 0), (0, 2), (1,)), HELD[2]), False), (("gave", HELD[1], ()), False), (("gave", HELD[1], HELD[2][:1]), False),
+            (("gave", ((1, 0), (0, 2), (1,)), HELD[2]), False), (("gave", HELD[1], ()), False),
+            (("gave", HELD[1], HELD[2][:1]), False),
             (("gave", HELD[1], HELD[2] + ((("on",),),)), False), (("gave", HELD[1], HELD[2][::-1]), False),
-            (("gave", HELD[1], (((7, thing(2)), 2), (("on",),))), False), (("gave", HELD[1], (((7, thing(2)), -1), (("on",),))), False),
-            (("gave", HELD[1], (((7, thing(2)), True), (("on",),))), False), (("gave", HELD[1], (((7, thing(2)), 0), (("over",),))), False),
-            (("gave", HELD[1], (((7, thing(2)), 0), (("told", ("thing", -1)),))), False), (("gave", HELD[1], (((7,) * 41, 0), (("on",),))), False),
-            (("gave", ((0, 0), (0, 2), (True,)), HELD[2]), False), (("gave", ((False, 0), (0, 2), (1,)), HELD[2]), False),
+            (("gave", HELD[1], (((7, thing(2)), 2), (("on",),))), False),
+            (("gave", HELD[1], (((7, thing(2)), -1), (("on",),))), False),
+            (("gave", HELD[1], (((7, thing(2)), True), (("on",),))), False),
+            (("gave", HELD[1], (((7, thing(2)), 0), (("over",),))), False),
+            (("gave", HELD[1], (((7, thing(2)), 0), (("told", ("thing", -1)),))), False),
+            (("gave", HELD[1], (((7,) * 41, 0), (("on",),))), False),
+            (("gave", ((0, 0), (0, 2), (True,)), HELD[2]), False),
+            (("gave", ((False, 0), (0, 2), (1,)), HELD[2]), False),
         ):
             self.assertIs(record_holds(with_part(WAKE, 2, ((frame[0], (held,)), up))), is_so, held)
         for other in (
-            ((GIVER, None),), (0,), (None,), ((GIVER, -1),), ((GIVER, True),), (((("n",), ()), 0),), (), ((GIVER, 0, 0),), ((INNER, 0),),
+            ((GIVER, None),), (0,), (None,), ((GIVER, -1),), ((GIVER, True),), (((("n",), ()), 0),), (),
+            ((GIVER, 0, 0),), ((INNER, 0),),
             ((with_part(GIVER, 0, ("m",)), 0),),
         ):
             self.assertFalse(record_holds(with_part(WAKE, 2, (frame, (up[0], other)))), other)
@@ -228,7 +258,8 @@ class Otherwise(unittest.TestCase):
             deed = ((), rows)
             return (
                 ("wake", deed), (1, None), ((("frame", 1), (("gave", path, loops),)), (("up", 1), ((deed, 0),))),
-                (("frame", 1, ("going",)), ("field", 0, "a", None)) + effects + (("frame", 1, ("ended",)),), end, steps, 1,
+                (("frame", 1, ("going",)), ("field", 0, "a", None)) + effects + (("frame", 1, ("ended",)),), end, steps,
+                1,
             )
         give = ("give", own("a"), ONE)
         in_try = (("try", (), None, (give,)),)
@@ -245,7 +276,8 @@ class Otherwise(unittest.TestCase):
 
     def test_what_lasts_hold_where_it_comes_to_nothing(self):
         """It has to be an end of a try's rows all the same, and in a frame that leads to a give."""
-        deed = ((), (("try", (), None, (("give", ("cell", "m", "a"), ONE), ("tell", ("worth", 5)))), ("let", ("cell", "m", "b"), ONE)))
+        deed = ((), (("try", (), None, (("give", ("cell", "m", "a"), ONE), ("tell", ("worth", 5)))),
+            ("let", ("cell", "m", "b"), ONE)))
 
         def record(path, *loops, deed=deed, more=(("cell", "m", "a", 7),), end=("told", 5), steps=2):
             frame = ("gave", path, loops)
@@ -255,8 +287,10 @@ class Otherwise(unittest.TestCase):
             )
         path = ((0, 2), (0,))
         for held, is_so in (
-            (("on",), True), (("told", 3), True), (("raised", "kind"), True), (("told", ("thing", 9)), True), (("left",), False), (("over",), False),
-            (("gave", 1), False), (("told",), False), (("told", 1, 2), False), (("told", ("thing", -1)), False), (("raised", ()), False),
+            (("on",), True), (("told", 3), True), (("raised", "kind"), True), (("told", ("thing", 9)), True),
+            (("left",), False), (("over",), False),
+            (("gave", 1), False), (("told",), False), (("told", 1, 2), False), (("told", ("thing", -1)), False),
+            (("raised", ()), False),
             ("on", False), ((), False), (None, False), (["on"], False), (("on", None), False), (("no", 1), False),
         ):
             self.assertIs(record_holds(record(path, (held,))), is_so, held)
@@ -274,8 +308,10 @@ class Otherwise(unittest.TestCase):
         """The room isn't asked for, and so counts by its form alone."""
         give = ("give", ("cell", "m", "a"), ONE)
         for deed, room, is_so in (
-            (((), (give,)), 0, True), (((), (give,)), None, False), (((), (give,)), True, False), (((), (give,)), -1, False),
-            (((), (("leave",), give)), 0, False), (((), (("do", ("deed", (), (give,))),)), 0, False), (((), ()), 0, False),
+            (((), (give,)), 0, True), (((), (give,)), None, False), (((), (give,)), True, False),
+            (((), (give,)), -1, False),
+            (((), (("leave",), give)), 0, False), (((), (("do", ("deed", (), (give,))),)), 0, False),
+            (((), ()), 0, False),
         ):
             effects = (("frame", 1, ("going",)), ("frame", 1, ("gave", ((0,),), ())))
             reads = ((("frame", 1), (("new",),)), (("up", 1), ((deed, room),)))
@@ -286,31 +322,69 @@ class Otherwise(unittest.TestCase):
             ended = (("frame", 1, ("going",)), ("frame", 1, ("ended",)))
             self.assertFalse(record_holds((text, (None, None), reads, ended, ("on",), 4, 1)) and not is_so)
 
+    def test_ups_and_frames_of_other_lengths(self):
+        deed = ((), (("give", ("cell", "m", "a"), ONE),))
+        text = ("rows", (("do", ("wake", ("cell", "m", "g"), ("worth", None))),))
+        ahead = ((("cell", "m", "g"), (("thing", 1),)), (("sort", 1), (("giver",),)))
+        effects = (("frame", 1, ("going",)), ("frame", 1, ("gave", ((0,),), ())))
+        behind = (("frame", 1, ("going",)), ("cell", "m", "a", None), ("frame", 1, ("ended",)))
+        gave = ("gave", ((0,),), ())
+        for up, frame, is_so in (
+            ((deed, 0), ("new",), True), ((deed, 0, 0), ("new",), False), ((deed,), ("new",), False),
+            (None, ("new",), False),
+            (0, ("new",), False), ([deed, 0], ("new",), False), ((), ("new",), False), ((deed, 0), ("new", 1), False),
+            ((deed, 0), gave, True), ((deed, 0), gave[:2], False), ((deed, 0), gave[:1], False),
+            ((deed, 0), gave + (1,), False),
+            ((deed, 0, 0), gave, False), ((deed,), gave, False), (0, gave, False), (None, gave, False),
+            ((deed, 0), ("gave", [(0,)], ()), False), ((deed, 0), ("gave", ((0,),), []), False),
+            ((deed, 0), ("gave", None, ()), False),
+            ((deed, 0), ("gave", ((0,),), None), False), ((deed, 0), ("gave", (0,), ()), False),
+            ((deed, 0), ("gave", ((0, 0),), ()), False),
+        ):
+            reads = ((("frame", 1), (frame,)), (("up", 1), (up,)))
+            done, end, steps = (behind, ("told", None), 0) if frame[0] == "gave" else (effects, ("gave", 1), 2)
+            self.assertIs(record_holds((("wake", deed), (1, None), reads, done, end, steps, 1)), is_so, (up, frame))
+            self.assertIs(record_holds((text, (None, None), ahead + reads, done, ("on",), steps + 4, 1)), is_so,
+                (up, frame))
+
+    def test_takes_may_be_called_as_a_row(self):
+        closure = (("make", 0, ("closure",), ((("keep", "a"), ()), None)),)
+        self.assertTrue(record_holds((("rows", (("do", ("deed", ("keep", "a"), ())),)), (None, None), (), closure,
+            ("on",), 2, 0)))
+
     def test_frames_that_are_read(self):
         text = ("rows", (("do", ("wake", ("cell", "m", "g"), ("worth", None))),))
         reads = ((("cell", "m", "g"), (("thing", 1),)), (("sort", 1), (("giver",),)))
         for frame, end, is_so in (
             (("going",), ("raised", "runs"), True), (("ended",), ("raised", "ended"), True), (("new",), ("on",), False),
-            (("gave", ((0,),), ()), ("on",), False), (("over",), ("raised", "ended"), False), ((), ("raised", "runs"), False),
-            (("going", 1), ("raised", "runs"), False), (["going"], ("raised", "runs"), False), ("going", ("raised", "runs"), False),
+            (("gave", ((0,),), ()), ("on",), False), (("over",), ("raised", "ended"), False),
+            ((), ("raised", "runs"), False),
+            (("going", 1), ("raised", "runs"), False), (["going"], ("raised", "runs"), False),
+            ("going", ("raised", "runs"), False),
         ):
-            self.assertIs(record_holds((text, (None, None), reads + ((("frame", 1), (frame,)),), (), end, 4, 0)), is_so, frame)
+            self.assertIs(record_holds((text, (None, None), reads + ((("frame", 1), (frame,)),), (), end, 4, 0)), is_so,
+                frame)
 
     def test_sorts_that_are_read(self):
         text = ("rows", (("say", ("word", "sort", (("cell", "m", "t"),))),))
         for sort, word in (
-            (("kind", "m", "k"), "thing"), (("giver",), "thing"), (("room",), "thing"), (("closure",), "deed"), (("deed", "m", "k"), None),
-            (("kind", "m"), None), (("kind", "m", "K"), None), (("thing",), None), ("giver", None), ((), None), (None, None), (["giver"], None),
+            (("kind", "m", "k"), "thing"), (("giver",), "thing"), (("room",), "thing"), (("closure",), "deed"),
+            (("deed", "m", "k"), None),
+            (("kind", "m"), None), (("kind", "m", "K"), None), (("thing",), None), ("giver", None), ((), None),
+            (None, None), (["giver"], None),
         ):
             reads = ((("cell", "m", "t"), (("thing", 1),)), (("sort", 1), (sort,)))
             for said in ("thing", "deed", "kind"):
-                self.assertIs(record_holds((text, (None, None), reads, (("say", said),), ("on",), 3, 0)), said == word, sort)
+                self.assertIs(record_holds((text, (None, None), reads, (("say", said),), ("on",), 3, 0)), said == word,
+                    sort)
 
     def test_a_turn(self):
         reads = TURN[2]
         for k, was in (
-            (0, (5,)), (0, (thing(8),)), (1, (("giver",),)), (1, (("room",),)), (2, (4,)), (2, ((INNER, None),)), (2, ((INNER, 5),)),
-            (2, (((("b",), (("tell", ("around", 13, "n")),)), 4),)), (2, (((("b",), (("tell", ("name", "n")),)), 4),)), (3, ()), (3, (3,)),
+            (0, (5,)), (0, (thing(8),)), (1, (("giver",),)), (1, (("room",),)), (2, (4,)), (2, ((INNER, None),)),
+            (2, ((INNER, 5),)),
+            (2, (((("b",), (("tell", ("around", 13, "n")),)), 4),)), (2, (((("b",), (("tell", ("name", "n")),)), 4),)),
+            (3, ()), (3, (3,)),
             (3, (True,)), (4, (2,)), (4, ()), (4, (True,)), (4, (-1,)), (5, ()), (5, (1,)), (5, (thing(1),)),
         ):
             changed = reads[:k] + ((reads[k][0], was),) + reads[k + 1:]
@@ -360,7 +434,8 @@ class Texts(unittest.TestCase):
     def test_what_stands_only_where_there_is_a_room(self):
         for rows, effects, end, steps in (
             ((("let", own("a"), ONE),), (("field", 0, "a", 1),), ("on",), 2), ((("tell", ONE),), (), ("told", 1), 2),
-            ((("each", own("a"), ("worth", row()), ()),), (), ("on",), 2), ((("try", (), (own("a"), ()), ()),), (), ("on",), 1),
+            ((("each", own("a"), ("worth", row()), ()),), (), ("on",), 2),
+            ((("try", (), (own("a"), ()), ()),), (), ("on",), 1),
             ((("if", ("worth", False), (("tell", ONE),), ()),), (), ("on",), 2),
         ):
             self.check(("rows", rows), (0, None), True, effects, end, steps)
@@ -396,7 +471,8 @@ class Texts(unittest.TestCase):
         self.assertFalse(record_holds((("wake", deed), (1, 5), reads, effects, ("told", None), 2, 1)))
 
     def test_around_from_one_to_twelve_and_never_behind_the_last_room(self):
-        for k, is_so in ((0, False), (1, True), (2, True), (12, True), (13, False), (-1, False), (True, False), ("1", False), (None, False)):
+        for k, is_so in ((0, False), (1, True), (2, True), (12, True), (13, False), (-1, False), (True, False),
+            ("1", False), (None, False)):
             rows = (("if", ("worth", False), (("do", ("around", k, "a")),), ()),)
             self.check(("rows", rows), (0, None), is_so, (), ("on",), 2)
         text = ("rows", (("do", ("around", 2, "a")),))
@@ -408,12 +484,16 @@ class Texts(unittest.TestCase):
 
     def test_led_names(self):
         for name in (("own", "a"), ("cell", "m", "a")):
-            self.check(("rows", (("if", ("worth", False), (("let", name, ONE),), ()),)), (0, None), True, (), ("on",), 2)
-        for name in ("a", ("around", 1, "a"), ("name", "a"), ("far", "m", "a"), ("own", "A"), ("own",), ("cell", "m"), ("own", "a", "b"), None, ()):
-            self.check(("rows", (("if", ("worth", False), (("let", name, ONE),), ()),)), (0, None), False, (), ("on",), 2)
+            self.check(("rows", (("if", ("worth", False), (("let", name, ONE),), ()),)), (0, None), True, (), ("on",),
+                2)
+        for name in ("a", ("around", 1, "a"), ("name", "a"), ("far", "m", "a"), ("own", "A"), ("own",), ("cell", "m"),
+            ("own", "a", "b"), None, ()):
+            self.check(("rows", (("if", ("worth", False), (("let", name, ONE),), ()),)), (0, None), False, (), ("on",),
+                2)
             self.check(("caught", name, (("do", ONE),)), (0, 5), False, (), ("on",), 2)
         for rows in (
-            (("keep", "a", ONE),), (("keep", own("a"), ONE),), (("keep", ("cell", "m", "a"), ONE),), (("do", ("name", "a")),),
+            (("keep", "a", ONE),), (("keep", own("a"), ONE),), (("keep", ("cell", "m", "a"), ONE),),
+            (("do", ("name", "a")),),
             (("do", ("cell", "m")),), (("let", "a", ONE),), (("each", "a", ONE, ()),), (("try", (), ("a", ()), ()),),
         ):
             self.check(("rows", (("if", ("worth", False), rows, ()),)), (0, None), False, (), ("on",), 2)
@@ -424,13 +504,15 @@ class Texts(unittest.TestCase):
         room = (("make", 0, ("room",), None),)
         for text, handed, effects, end, steps, deep in (
             (("rows", do), (None, None), (), ("on",), 2, 0), (("module", do), (), (), ("on",), 2, 0),
-            (("deed", ((), do)), (None, ()), room, ("told", None), 2, 1), (("turn", ("while", ("worth", False), ())), (None, None), (), ("over",), 2, 0),
+            (("deed", ((), do)), (None, ()), room, ("told", None), 2, 1),
+            (("turn", ("while", ("worth", False), ())), (None, None), (), ("over",), 2, 0),
             (("caught", ("cell", "m", "a"), do), (None, 1), (("cell", "m", "a", 1),), ("on",), 2, 0),
         ):
             self.check(text, handed, True, effects, end, steps, deep)
             for other in (text + (None,), text + ((),), text[:-1], ("row",) + text[1:], list(text), (text,)):
                 self.check(other, handed, False, effects, end, steps, deep)
-        for row_now in (("say", ONE), ("if", ("worth", False), (), ()), ("try", (), None, ()), ("do", ONE), ("leave",), ONE):
+        for row_now in (("say", ONE), ("if", ("worth", False), (), ()), ("try", (), None, ()), ("do", ONE), ("leave",),
+            ONE):
             for end, steps in (("on",), 1), (("over",), 2), (("left",), 1), (("on",), 2):
                 self.check(("turn", row_now), (None, None), False, (), end, steps)
         for reads in ((), ((("frame", 1), (("new",),)), (("up", 1), ((((), ()), 0),)))):
@@ -439,7 +521,8 @@ class Texts(unittest.TestCase):
         deed = ((), (("give", ("cell", "m", "a"), ONE),))
         reads = ((("frame", 1), (("new",),)), (("up", 1), ((deed, 0),)))
         effects = (("frame", 1, ("going",)), ("frame", 1, ("gave", ((0,),), ())))
-        for text, is_so in ((("wake", deed), True), (("wake", deed, ()), False), (("wake", deed + ((),)), False), (("wake",), False)):
+        for text, is_so in ((("wake", deed), True), (("wake", deed, ()), False), (("wake", deed + ((),)), False),
+            (("wake",), False)):
             self.assertIs(record_holds((text, (1, None), reads, effects, ("gave", 1), 2, 1)), is_so)
 
     def test_what_is_handed(self):
@@ -448,15 +531,19 @@ class Texts(unittest.TestCase):
         room = (("make", 0, ("room",), None),)
         each, loop = ("each", ("cell", "m", "a"), ONE, ()), ("while", ("worth", False), ())
         for text, rights, wrongs, effects, end, steps, deep in (
-            (("rows", do), ((None, None), (5, None)), ((None, 5), (None, ()), (None,), (None, None, None), ()), (), ("on",), 2, 0),
+            (("rows", do), ((None, None), (5, None)), ((None, 5), (None, ()), (None,), (None, None, None), ()), (),
+                ("on",), 2, 0),
             (("turn", loop), ((None, None), (5, None)), ((None, 5), (None, False), (), (None,)), (), ("over",), 2, 0),
-            (("turn", each), ((None, None), (7, None)), ((None, 5), (None,), (None, ())), (("cell", "m", "a", None),), ("on",), 1, 0),
+            (("turn", each), ((None, None), (7, None)), ((None, 5), (None,), (None, ())), (("cell", "m", "a", None),),
+                ("on",), 1, 0),
             (("module", do), ((),), ((None, None), (None,), None, []), (), ("on",), 2, 0),
-            (("deed", ((), do)), ((None, ()),), ((None, None), (None, []), (None, (None,)), (), ((), ())), room, ("told", None), 2, 1),
+            (("deed", ((), do)), ((None, ()),), ((None, None), (None, []), (None, (None,)), (), ((), ())), room,
+                ("told", None), 2, 1),
         ):
             for handed in rights:
                 self.check(text, handed, True, effects, end, steps, deep)
-            for handed in wrongs + ((-1, rights[0][-1] if rights[0] else None), ("5", None), (True, None), None, 5, [None, None]):
+            for handed in wrongs + ((-1, rights[0][-1] if rights[0] else None), ("5", None), (True, None), None, 5,
+                [None, None]):
                 self.check(text, handed, False, effects, end, steps, deep)
 
     def test_four_hundred_parts_and_one_more(self):
@@ -464,7 +551,8 @@ class Texts(unittest.TestCase):
             rows = (("do", ONE),) * many
             self.check(("rows", rows), (None, None), is_so, (), ("on",), 2 * many)
             self.check(("module", rows), (), is_so, (), ("on",), 2 * many)
-            self.check(("deed", ((), rows)), (None, ()), is_so, (("make", 0, ("room",), None),), ("told", None), 2 * many, 1)
+            self.check(("deed", ((), rows)), (None, ()), is_so, (("make", 0, ("room",), None),), ("told", None),
+                2 * many, 1)
         rows = (("do", ONE),) * 200 + (("try", (), None, ()),)
         self.check(("rows", rows), (None, None), False, (), ("on",), 401)
         self.check(("rows", rows[1:]), (None, None), True, (), ("on",), 399)
@@ -476,7 +564,8 @@ class Texts(unittest.TestCase):
         count = ("cell", "m", "n")
         more = (("let", count, ("word", "plus", (count, ONE))),)
         for end in (623, 624, 625):
-            for ahead, more_steps in (((), 0), (("do", ONE), 2), (("do", ("row", (ONE,))), 3), (("do", ("row", (ONE, ONE))), 4)):
+            for ahead, more_steps in (((), 0), (("do", ONE), 2), (("do", ("row", (ONE,))), 3),
+                (("do", ("row", (ONE, ONE))), 4)):
                 rows = (ahead,) * bool(ahead) + (("while", ("word", "less", (count, ("worth", end))), more),)
                 # Eight in each turn, four in the last one, of which the test isn't so.
                 steps = more_steps + 1 + 8 * end + 4
@@ -489,10 +578,12 @@ class Texts(unittest.TestCase):
             ("do", ("call", ("cell", "m", "d"), (("word", "minus", (own("n"), ONE)),))),), ()),)))
         for deep in (1, 2, 12, 13):
             calls = tuple(
-                effect for k in range(deep) for effect in (("make", k, ("room",), None), ("field", k, "n", deep - 1 - k))
+                effect for k in range(deep) for effect in (("make", k, ("room",), None),
+                    ("field", k, "n", deep - 1 - k))
             )
             reads = ((("cell", "m", "d"), (("deed", "m", "d"),)), (("deed", "m", "d"), (down[1],)))
-            record = (down, (None, (deep - 1,)), reads if deep > 1 else (), calls, ("told", None), 4 + 10 * (deep - 1), deep)
+            record = (down, (None, (deep - 1,)), reads if deep > 1 else (), calls, ("told", None), 4 + 10 * (deep - 1),
+                deep)
             self.assertIs(record_holds(record), deep <= 12, deep)
             self.assertFalse(record_holds(with_part(record, 6, deep - 1)))
             self.assertFalse(record_holds(with_part(record, 6, deep + 1)))
@@ -510,13 +601,15 @@ class Numbering(unittest.TestCase):
         self.assertTrue(record_holds(self.record(0, 1)))
         self.assertTrue(record_holds(self.record(6, 7, 5)))
         self.assertTrue(record_holds(self.record(70, 71, 5)))
-        for one, other, room in ((0, 2, None), (1, 0, None), (0, 0, None), (5, 6, 5), (4, 5, 5), (-1, 0, None), (False, True, None)):
+        for one, other, room in ((0, 2, None), (1, 0, None), (0, 0, None), (5, 6, 5), (4, 5, 5), (-1, 0, None),
+            (False, True, None)):
             self.assertFalse(record_holds(self.record(one, other, room)))
 
     def test_above_what_stood_in_reads_wherever(self):
         text = ("rows", (("do", ("new", ("cell", "m", "k"), ())), ("do", ("cell", "m", "a"))))
         for worth, k, is_so in (
-            (thing(7), 8, True), (thing(7), 7, False), (thing(7), 0, False), (row(row(thing(9)), 1), 9, False), (row(row(thing(9)), 1), 10, True),
+            (thing(7), 8, True), (thing(7), 7, False), (thing(7), 0, False), (row(row(thing(9)), 1), 9, False),
+            (row(row(thing(9)), 1), 10, True),
             (row("thing", 5), 0, True), (5, 0, True),
         ):
             reads = self.READS + ((("cell", "m", "a"), (worth,)),)
@@ -533,7 +626,8 @@ class Anything(unittest.TestCase):
                     self.assertIn(record_holds(with_part(record, k, thing_now)), (True, False))
                 for k in range(len(record[2])):
                     place, was = record[2][k]
-                    for read in (thing_now, (thing_now, was), (place, thing_now), (place, (thing_now,)), (place[:1] + (thing_now,) + place[2:], was)):
+                    for read in (thing_now, (thing_now, was), (place, thing_now), (place, (thing_now,)),
+                        (place[:1] + (thing_now,) + place[2:], was)):
                         found = record_holds(with_part(record, 2, record[2][:k] + (read,) + record[2][k + 1:]))
                         self.assertIn(found, (True, False))
             for text in ("deed", "turn", "rows", "caught", "wake", "module"):
@@ -545,12 +639,16 @@ class Anything(unittest.TestCase):
         text = ("rows", (("do", ("call", ("far", "m", "a"), ())),))
         places = (("cell", "m", "a"), ("deed", "m", "a"))
         for deed, is_so in (
-            (((), ()), True), (((), (("tell", ("around", 12, "a")),))[:1] + ((),), True), (((), (("leave",),)), False), (((), [("leave",)]), False),
-            (((), (("tell", ("name", "a")),)), False), (((), (("let", "a", ONE),)), False), (((), (("keep", own("a"), ONE),)), False),
-            ((("a", "a"), ()), False), (((),), False), (None, False), (((), (("if", ("worth", False), (("do", ("around", 13, "a")),), ()),)), False),
+            (((), ()), True), (((), (("tell", ("around", 12, "a")),))[:1] + ((),), True), (((), (("leave",),)), False),
+            (((), [("leave",)]), False),
+            (((), (("tell", ("name", "a")),)), False), (((), (("let", "a", ONE),)), False),
+            (((), (("keep", own("a"), ONE),)), False),
+            ((("a", "a"), ()), False), (((),), False), (None, False),
+            (((), (("if", ("worth", False), (("do", ("around", 13, "a")),), ()),)), False),
         ):
             record = (
-                text, (None, None), ((places[0], (places[1],)), (places[1], (deed,))), (("make", 0, ("room",), None),), ("on",), 3, 1,
+                text, (None, None), ((places[0], (places[1],)), (places[1], (deed,))), (("make", 0, ("room",), None),
+                    ), ("on",), 3, 1,
             )
             self.assertIs(record_holds(record), is_so, deed)
         lacks = (text, (None, None), ((places[0], (places[1],)), (places[1], ())), (), ("raised", "lacks"), 3, 0)

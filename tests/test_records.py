@@ -34,7 +34,8 @@ class Stretches(unittest.TestCase):
                 (("cell", "main", "a", 1), ("say", 1)), ("on",), 4, 0,
             ),
         )
-        self.check("module", ("(raise (= 1))",), (("module", (("raise", ("worth", 1)),)), (), (), (), ("raised", 1), 2, 0))
+        self.check("module", ("(raise (= 1))",),
+            (("module", (("raise", ("worth", 1)),)), (), (), (), ("raised", 1), 2, 0))
 
     def test_a_module_without_rows(self):
         self.assertEqual(
@@ -70,16 +71,20 @@ class Stretches(unittest.TestCase):
         rows = (SAY_ONE,)
         record = (("rows", rows), (None, None), (), (("say", 1),), ("on",), 2, 0)
         for text in (
-            "(if (= yes) ((say (= 1))) ())", "(if (= no) () ((say (= 1))))", "(try ((say (= 1))) - ())", "(try () - ((say (= 1))))",
+            "(if (= yes) ((say (= 1))) ())", "(if (= no) () ((say (= 1))))", "(try ((say (= 1))) - ())",
+            "(try () - ((say (= 1))))",
         ):
             self.check("rows", (text,), record)
-        self.check("rows", ("(do (call go ()))", "(go () ((if (= yes) ((say (= 1))) ())))"), record[:1] + ((0, None),) + record[2:])
+        self.check("rows", ("(do (call go ()))", "(go () ((if (= yes) ((say (= 1))) ())))"),
+            record[:1] + ((0, None),) + record[2:])
 
     def test_rows_without_rows_are_none(self):
-        self.assertEqual(len(records_of("(if (= yes) () ()) (if (= no) () ()) (try () (e ()) ()) (try ((raise (= 1))) (e ()) ())")), 2)
+        rows = "(if (= yes) () ()) (if (= no) () ()) (try () (e ()) ()) (try ((raise (= 1))) (e ()) ())"
+        self.assertEqual([record[0][0] for record in records_of(rows)], ["module", "rows"])
 
     def test_ends_of_rows(self):
-        for rows, end in (("(leave)", ("left",)), ("(tell (= 7))", ("told", 7)), ("(raise (= 7))", ("raised", 7)), ("(do n)", ("on",))):
+        for rows, end in (("(leave)", ("left",)), ("(tell (= 7))", ("told", 7)), ("(raise (= 7))", ("raised", 7)),
+            ("(do n)", ("on",))):
             record, = of_word("rows", "(try ((do (call go ((= 2))))) (e ()) ())",
                               f"(go (n) ((each x (= [1]) ((if (= yes) ({rows}) ())))))")[1:]
             self.assertEqual((record[1], record[4]), ((0, None), end))
@@ -115,7 +120,8 @@ class Stretches(unittest.TestCase):
         self.assertEqual(record[4:], (("raised", "kind"), 2, 0))
 
     def test_turns_of_an_each(self):
-        text = ("turn", ("each", ("cell", "main", "x"), ("worth", ("row", (1, True))), (("say", ("cell", "main", "x")),)))
+        text = ("turn", ("each", ("cell", "main", "x"), ("worth", ("row", (1, True))),
+            (("say", ("cell", "main", "x")),)))
         self.check(
             "turn", ("(each x (= [1 yes]) ((say x)))",),
             (text, (None, 1), (), (("cell", "main", "x", 1), ("say", 1)), ("on",), 3, 0),
@@ -132,9 +138,11 @@ class Stretches(unittest.TestCase):
     def test_wakes(self):
         deed = (("n",), (("give", ("own", "x"), OWN_N), ("tell", ("own", "x"))))
         self.check(
-            "wake", ("(let g (call go ((= 5)))) (do (wake g (= 1))) (do (wake g (= 2)))", "(go (n) ((give x n) (tell x)))"),
+            "wake", ("(let g (call go ((= 5)))) (do (wake g (= 1))) (do (wake g (= 2)))",
+                "(go (n) ((give x n) (tell x)))"),
             (
-                ("wake", deed), (1, 1), ((("frame", 1), (("new",),)), (("up", 1), ((deed, 0),)), (("field", 0, "n"), (5,))),
+                ("wake", deed), (1, 1),
+                ((("frame", 1), (("new",),)), (("up", 1), ((deed, 0),)), (("field", 0, "n"), (5,))),
                 (("frame", 1, ("going",)), ("frame", 1, ("gave", ((0,),), ()))), ("gave", 5), 2, 1,
             ),
             (
@@ -144,7 +152,8 @@ class Stretches(unittest.TestCase):
         )
 
     def test_a_waking_that_ends_without_a_tell_or_raises(self):
-        found = of_word("wake", "(try ((do (wake (call go ((= no))) (= 1))) (do (wake (call go ((= yes))) (= 1)))) (e ()) ())",
+        found = of_word("wake",
+            "(try ((do (wake (call go ((= no))) (= 1))) (do (wake (call go ((= yes))) (= 1)))) (e ()) ())",
                         "(go (n) ((if n ((raise (= 9))) ()) (while n ((give x n)))))")
         self.assertEqual([record[4] for record in found], [("told", None), ("raised", 9)])
         self.assertEqual([record[3][-1][2] for record in found], [("ended",)] * 2)
@@ -159,11 +168,13 @@ class Stretches(unittest.TestCase):
 
     def test_what_bears_a_give_is_no_stretch_but_the_waking(self):
         rows = "(let g (call go ())) (do (wake g (= 1))) (do (wake g (= 1))) (do (wake g (= 1)))"
-        deed = """(go () ((each x (= [1 2]) ((if (= yes) ((say (= 1))) ()) (try ((give y x) (if (= no) () ((say (= 2)))) (raise (= 3)))
+        deed = """(go () ((each x (= [1 2]) (
+            (if (= yes) ((say (= 1))) ()) (try ((give y x) (if (= no) () ((say (= 2)))) (raise (= 3)))
             (e ((say e))) ((say (= 4)))))) (while (= no) ())))"""
         found = records_of(rows, deed)
         self.assertEqual([record[0][0] for record in found], [
-            "module", "wake", "rows", "wake", "rows", "caught", "rows", "rows", "wake", "rows", "caught", "rows", "turn",
+            "module", "wake", "rows", "wake", "rows", "caught", "rows", "rows", "wake", "rows", "caught", "rows",
+            "turn",
         ])
 
     def test_a_givers_call_is_no_stretch(self):
@@ -172,7 +183,8 @@ class Stretches(unittest.TestCase):
         )
         record, = records_of("(do (call go ((= 5))))", "(go (n) ((give x (= 1))))")
         deed = (("n",), (("give", ("own", "x"), ("worth", 1)),))
-        self.assertEqual(record[3], (("make", 0, ("room",), None), ("field", 0, "n", 5), ("make", 1, ("giver",), (deed, 0))))
+        self.assertEqual(record[3],
+            (("make", 0, ("room",), None), ("field", 0, "n", 5), ("make", 1, ("giver",), (deed, 0))))
 
 
 class Reads(unittest.TestCase):
@@ -210,12 +222,14 @@ class Reads(unittest.TestCase):
             ("", "(do (call go ((= 1))))", [("cell", "main", "go"), ("deed", "main", "go")]),
             ("(let f (deed () ()))", "(do (call f ()))", [("cell", "main", "f"), ("sort", 0), ("up", 0)]),
             ("(let f (deed () ()))", "(do (field f a))", [("cell", "main", "f"), ("sort", 0)]),
-            ("(let g (call gives ()))", "(do (wake g (= 1)))", [("cell", "main", "g"), ("sort", 1), ("frame", 1), ("up", 1)]),
+            ("(let g (call gives ()))", "(do (wake g (= 1)))",
+                [("cell", "main", "g"), ("sort", 1), ("frame", 1), ("up", 1)]),
             ("(let g (call gives ())) (do (wake g (= 1))) (do (wake g (= 1)))", "(do (wake g (= 1)))",
              [("cell", "main", "g"), ("sort", 1), ("frame", 1)]),
             ("(let r (= []))", "(each y r ()) (if (= no) () ()) (do (row (r r)))", [("cell", "main", "r")]),
         ):
-            self.assertEqual(self.reads(ahead, text + "(leave)", "(go () ()) (gives () ((give x (= 1))))"), places, text)
+            self.assertEqual(self.reads(ahead, text + "(leave)", "(go () ()) (gives () ((give x (= 1))))"), places,
+                text)
 
     def test_of_rooms(self):
         deeds = "(go (a) ((tell (deed (b) ((tell (deed (c) ((do c) (do b) (do a) (do b))))))))"
@@ -223,7 +237,8 @@ class Reads(unittest.TestCase):
         # The room of the call is made within: the first one outwards is handed, but the second one read.
         self.assertEqual(record[1], (2, (3,)))
         self.assertEqual(record[2], ((("field", 2, "b"), (2,)), (("up", 2), (0,)), (("field", 0, "a"), (1,))))
-        record = of_word("rows", "(do (call go ((= 1))))", "(go (a) ((if (= yes) ((do a) (let b a) (do b) (do c) (let c b)) ())))")
+        record = of_word("rows", "(do (call go ((= 1))))",
+            "(go (a) ((if (= yes) ((do a) (let b a) (do b) (do c) (let c b)) ())))")
         self.assertEqual(record[0][2], ((("field", 0, "a"), (1,)), (("field", 0, "c"), ())))
 
     def test_what_is_asked(self):
@@ -233,10 +248,12 @@ class Reads(unittest.TestCase):
         run.tell("w", 6)
         record = run.records()[1][1]
         self.assertEqual(record[2], ((("asked", "w"), (0,)), (("told", "w", 0), (5,)), (("told", "w", 1), (6,))))
-        self.assertEqual(record[3], (("cell", "main", "x", 1), ("asked", "w", 1), ("say", 5), ("asked", "w", 2), ("say", 6)))
+        self.assertEqual(record[3],
+            (("cell", "main", "x", 1), ("asked", "w", 1), ("say", 5), ("asked", "w", 2), ("say", 6)))
 
     def test_what_was_there_not_what_comes(self):
-        record, = of_word("turn", "(let a (= 1)) (let t (new box ())) (each x (= [0]) ((put t b a) (let a (= 2)) (do (fields t)) (do a)))",
+        record, = of_word("turn",
+            "(let a (= 1)) (let t (new box ())) (each x (= [0]) ((put t b a) (let a (= 2)) (do (fields t)) (do a)))",
                           "", "(box - ())")
         self.assertEqual(record[2], (
             (("cell", "main", "t"), (("thing", 0),)), (("cell", "main", "a"), (1,)),
@@ -248,7 +265,10 @@ class Reads(unittest.TestCase):
         self.assertEqual(self.reads("", "(let a (= 1)) (do a) (keep a a)"), [])
         self.assertEqual(self.reads("", "(do x)"), [])
         self.assertEqual(
-            self.reads("", "(let t (new box ())) (do (sort t)) (do (field t a)) (do (fields t)) (out t a) (do (has t a)) (do (send t no ()))"),
+            self.reads("", """
+                (let t (new box ())) (do (sort t)) (do (field t a)) (do (fields t))
+                (out t a) (do (has t a)) (do (send t no ()))
+            """),
             [("cell", "main", "box"), ("chain", "main", "box", "make"), ("chain", "main", "box", "no")],
         )
         self.assertEqual(
@@ -256,7 +276,8 @@ class Reads(unittest.TestCase):
             [("cell", "main", "t"), ("sort", 0), ("names", 0)],
         )
         self.assertEqual(
-            self.reads("", "(let g (call gives ())) (do (wake g (= 1))) (do (wake g (= 1)))", "(gives () ((give x (= 1))))"),
+            self.reads("", "(let g (call gives ())) (do (wake g (= 1))) (do (wake g (= 1)))",
+                "(gives () ((give x (= 1))))"),
             [("cell", "main", "gives"), ("deed", "main", "gives")],
         )
 
@@ -272,15 +293,18 @@ class Reads(unittest.TestCase):
         self.assertEqual(rows[2:], (((("cell", "main", "a"), (1,)),), (("say", 1),), ("on",), 2, 0))
         self.assertEqual(deed[2:], (rows[2], (("make", 0, ("room",), None), ("say", 1)), ("told", None), 4, 1))
         self.assertEqual([place for place, _ in whole[2]], [("cell", "main", "go"), ("deed", "main", "go")])
-        self.assertEqual(whole[3:], ((("cell", "main", "a", 1), ("make", 0, ("room",), None), ("say", 1)), ("on",), 9, 1))
+        self.assertEqual(whole[3:],
+            ((("cell", "main", "a", 1), ("make", 0, ("room",), None), ("say", 1)), ("on",), 9, 1))
 
 
 class Effects(unittest.TestCase):
     def test_of_each_sort(self):
         kinds = "(box - ((make (self a) ((put self a a)))))"
-        record = of_word("module", "(let t (new box ((= 1)))) (out t a) (let f (deed () ())) (say (= none))", "", kinds)[0]
+        record = of_word("module", "(let t (new box ((= 1)))) (out t a) (let f (deed () ())) (say (= none))", "",
+            kinds)[0]
         self.assertEqual(record[3], (
-            ("make", 0, ("kind", "main", "box"), None), ("make", 1, ("room",), None), ("field", 1, "self", ("thing", 0)),
+            ("make", 0, ("kind", "main", "box"), None), ("make", 1, ("room",), None),
+            ("field", 1, "self", ("thing", 0)),
             ("field", 1, "a", 1), ("field", 0, "a", 1), ("cell", "main", "t", ("thing", 0)), ("out", 0, "a"),
             ("make", 2, ("closure",), (((), ()), None)), ("cell", "main", "f", ("thing", 2)), ("say", None),
         ))
@@ -313,7 +337,8 @@ class Kept(unittest.TestCase):
     def test_those_with_the_fewest_steps_go_of_alike_ones_the_later(self):
         whole = self.steps(run_of(self.ROWS))
         for keep, left in ((5, [0, 1, 2, 3, 4]), (4, [0, 1, 2, 4]), (3, [0, 1, 2]), (2, [0, 2]), (1, [0]), (0, [])):
-            self.assertEqual([record[1:] for record in self.steps(run_of(self.ROWS, keep=keep))], [whole[k][1:] for k in left])
+            self.assertEqual([record[1:] for record in self.steps(run_of(self.ROWS, keep=keep))],
+                [whole[k][1:] for k in left])
 
     def test_outer_is_the_nearest_one_there(self):
         rows = "(try ((try ((say (= 1)) (try ((say (= 2)) (say (= 3)) (do (ask w))) - ())) - ())) - ())"

@@ -44,7 +44,8 @@ class Case(unittest.TestCase):
     def all_of(self, run):
         """All that a Run tells of itself."""
         return repr((
-            told_of(run, run.program()), run.program(), run.wells(), run.busy(), run.spoken(), run.records(), run.gone(),
+            told_of(run, run.program()), run.program(), run.wells(), run.busy(), run.spoken(), run.records(),
+            run.gone(),
             [run.at(step) for step in range(run.steps() + 1)],
         ))
 
@@ -78,7 +79,8 @@ class Case(unittest.TestCase):
 class Making(Case):
     def test_no_program(self):
         good = program_of("(say (= 1))")
-        for thing in anything() + (good[0], list(good), (list(good[0]),), good + good, read_program("(module main () () ())")[0]):
+        for thing in anything() + (good[0], list(good), (list(good[0]),), good + good,
+            read_program("(module main () () ())")[0]):
             with self.assertRaises(NoProgram):
                 Run(thing)
             with self.assertRaises(NoProgram):
@@ -97,7 +99,8 @@ class Making(Case):
 
     def test_it_goes_as_a_plain_run_with_no_worths_told(self):
         run = run_of("(say (= 1)) (say (ask w)) (say (= 2))")
-        self.assertEqual((run.sayings(), run.stand(), run.wells(), run.gone(), run.spoken()), ((1,), ("waits", "w"), (), 0, 0))
+        self.assertEqual((run.sayings(), run.stand(), run.wells(), run.gone(), run.spoken()),
+            ((1,), ("waits", "w"), (), 0, 0))
         self.assertFalse(run.busy())
         self.assert_stands(run)
 
@@ -150,7 +153,10 @@ class Telling(Case):
 
     def test_it_goes_on_amid_calls_wakings_and_tries(self):
         run = run_of(
-            "(let g (call go ())) (try ((say (call add ((ask w) (at (wake g (= 1)) (= 1)))))) (e ((say e))) ()) (say (at (wake g (= 7)) (= 1)))",
+            """
+            (let g (call go ())) (try ((say (call add ((ask w) (at (wake g (= 1)) (= 1)))))) (e ((say e))) ())
+            (say (at (wake g (= 7)) (= 1)))
+            """,
             ADD + "(go () ((each x (= [1 2]) ((try ((give y (ask w))) - ((say (ask v))))))))",
         )
         for well, worth in (("w", 1), ("w", 10), ("v", "a"), ("w", 20), ("v", "b")):
@@ -170,11 +176,13 @@ class Telling(Case):
             if thing not in ("a", "main", "none"):
                 self.assert_refused(run, NoName, (), run.tell, thing, 1)
                 self.assert_refused(run, NoName, (), run.tell, thing, [])
-        for thing in (("thing", 0), ("deed", "main", "a"), ("row", (("thing", 0),)), 10 ** 15 + 1, "a" * 21, [], {}, ("row", [])):
+        for thing in (("thing", 0), ("deed", "main", "a"), ("row", (("thing", 0),)), 10 ** 15 + 1, "a" * 21, [], {},
+            ("row", [])):
             self.assert_refused(run, NoWorth, (), run.tell, "w", thing)
 
     def test_too_long_and_too_deep(self):
-        run = run_of("(say (ask w)) (if (at (ask w) (= 0)) ((say (= 1))) ((do (call add ((= 1) (= 2))))))", ADD, most=11, deep=0)
+        run = run_of("(say (ask w)) (if (at (ask w) (= 0)) ((say (= 1))) ((do (call add ((= 1) (= 2))))))", ADD,
+            most=11, deep=0)
         run.tell("w", 5)
         run.speak()
         self.assert_refused(run, TooDeep, (0,), run.tell, "w", ("row", (False,)))
@@ -251,7 +259,8 @@ class Speaking(Case):
 
         def mouth(saying):
             for do, handed in (
-                (run.tell, ("w", 1)), (run.tell, (5, [])), (run.change, ((),)), (run.change, (7,)), (run.speak, ()), (run.speak, (None,)),
+                (run.tell, ("w", 1)), (run.tell, (5, [])), (run.change, ((),)), (run.change, (7,)), (run.speak, ()),
+                (run.speak, (None,)),
             ):
                 with self.assertRaises(Busy):
                     do(*handed)
@@ -283,7 +292,8 @@ class Speaking(Case):
 
 class Edits(Case):
     PROGRAM = program_of(
-        "(let n (= 0)) (say (call add ((= 1) (ask w)))) (say (ask w))", ADD, "(box - ())", ("(module aux ((go () ())) () ((let a (= 1))))",),
+        "(let n (= 0)) (say (call add ((= 1) (ask w)))) (say (ask w))", ADD, "(box - ())",
+        ("(module aux ((go () ())) () ((let a (= 1))))",),
     )
 
     def ready(self):
@@ -314,7 +324,8 @@ class Edits(Case):
 
     def test_rows(self):
         run = self.ready()
-        self.assert_changed(run, (("rows", "main", rows_of("(say (far aux a))")), ("rows", "aux", rows_of("(let a (= 9))"))))
+        self.assert_changed(run,
+            (("rows", "main", rows_of("(say (far aux a))")), ("rows", "aux", rows_of("(let a (= 9))"))))
         self.assertEqual(run.sayings(), (9,))
 
     def test_a_module(self):
@@ -338,8 +349,10 @@ class Edits(Case):
         run = self.ready()
         module = ("extra", (), (), ())
         self.assert_changed(run, (
-            ("module", "extra", module), ("deed", "extra", "go", ((), ())), ("deed", "extra", "go", None), ("rows", "extra", ()),
-            ("kind", "extra", "go", (None, ())), ("module", "aux", None), ("kind", "main", "box", None), ("deed", "main", "box", ((), ())),
+            ("module", "extra", module), ("deed", "extra", "go", ((), ())), ("deed", "extra", "go", None),
+            ("rows", "extra", ()),
+            ("kind", "extra", "go", (None, ())), ("module", "aux", None), ("kind", "main", "box", None),
+            ("deed", "main", "box", ((), ())),
         ))
         self.assertEqual(run.program()[0], ("extra", (), (("go", (None, ())),), ()))
         self.assertEqual([name for name, _ in run.program()[1][1]], ["add", "box"])
@@ -363,19 +376,29 @@ class Edits(Case):
     def wrong(self):
         deed, kind, module = ((), ()), (None, ()), ("aux", (), (), ())
         yield from (
-            (), ("deed",), ("deed", "main"), ("deed", "main", "a"), ("deed", "main", "a", deed, deed), ("need", "main", "a", deed), "deed", None, 7,
-            ["deed", "main", "a", deed], ("deed", "Main", "a", deed), ("deed", "main", "", deed), ("deed", 1, "a", deed),
-            ("deed", "main", None, deed), ("deed", "main", "a", kind), ("deed", "main", "a", ((), (("leave",),))), ("deed", "main", "a", ()),
-            ("deed", "main", "a", ((), (("own", "a"),))), ("deed", "main", "a", (("a", "a"), ())), ("deed", "main", "a", False),
-            ("kind", "main", "a", deed), ("kind", "main", "a", (("main",), ())), ("kind", "main", "a", (None, (("b", deed), ("a", deed)))),
+            (), ("deed",), ("deed", "main"), ("deed", "main", "a"), ("deed", "main", "a", deed, deed),
+            ("need", "main", "a", deed), "deed", None, 7,
+            ["deed", "main", "a", deed], ("deed", "Main", "a", deed), ("deed", "main", "", deed),
+            ("deed", 1, "a", deed),
+            ("deed", "main", None, deed), ("deed", "main", "a", kind), ("deed", "main", "a", ((), (("leave",),))),
+            ("deed", "main", "a", ()),
+            ("deed", "main", "a", ((), (("own", "a"),))), ("deed", "main", "a", (("a", "a"), ())),
+            ("deed", "main", "a", False),
+            ("kind", "main", "a", deed), ("kind", "main", "a", (("main",), ())),
+            ("kind", "main", "a", (None, (("b", deed), ("a", deed)))),
             ("kind", "main", "a"), ("kind", "main", 5, kind), ("kind", "main", "a", (None, (("a", deed), ("a", deed)))),
             ("kind", "main", "a", module), ("rows", "main"), ("rows", "main", None), ("rows", "main", [("leave",)]),
-            ("rows", "main", (("leave",),)), ("rows", "main", (("tell", ("worth", 1)),)), ("rows", "main", (("give", "a", ("worth", 1)),)),
+            ("rows", "main", (("leave",),)), ("rows", "main", (("tell", ("worth", 1)),)),
+            ("rows", "main", (("give", "a", ("worth", 1)),)),
             ("rows", "mainmainm", ()), ("rows", "main", ("leave",)), ("rows", "main", (), ()),
-            ("module", "aux"), ("module", "main", module), ("module", "aux", ("aux", (), ())), ("module", "AUX", None), ("module", "aux", ()),
-            ("module", "aux", ("aux", (("a", deed),), (("a", kind),), ())), ("module", "aux", ("aux", (("a", deed),), (), (("let", "a", ("worth", 1)),))),
-            ("module", "aux", "aux"), ("told", "w", 0), ("told", "w", -1, 1), ("told", "w", True, 1), ("told", "w", False, 1), ("told", "w", "0", 1),
-            ("told", "w", None, 1), ("told", "w", 0, ("thing", 1)), ("told", "w", 0, 10 ** 16), ("told", "", 0, 1), ("told", "w", 0, []),
+            ("module", "aux"), ("module", "main", module), ("module", "aux", ("aux", (), ())), ("module", "AUX", None),
+            ("module", "aux", ()),
+            ("module", "aux", ("aux", (("a", deed),), (("a", kind),), ())),
+            ("module", "aux", ("aux", (("a", deed),), (), (("let", "a", ("worth", 1)),))),
+            ("module", "aux", "aux"), ("told", "w", 0), ("told", "w", -1, 1), ("told", "w", True, 1),
+            ("told", "w", False, 1), ("told", "w", "0", 1),
+            ("told", "w", None, 1), ("told", "w", 0, ("thing", 1)), ("told", "w", 0, 10 ** 16), ("told", "", 0, 1),
+            ("told", "w", 0, []),
             ("told", "w", 0, 1, 1), ("told", ["w"], 0, 1),
         )
 
@@ -394,9 +417,12 @@ class Edits(Case):
         run = self.ready()
         good = ("deed", "main", "zoo", ((), ()))
         for edit in (
-            ("deed", "no", "a", ((), ())), ("deed", "no", "a", None), ("deed", "main", "no", None), ("deed", "aux", "add", None),
-            ("deed", "main", "box", None), ("kind", "no", "a", (None, ())), ("kind", "no", "a", None), ("kind", "main", "no", None),
-            ("kind", "main", "add", None), ("rows", "no", ()), ("module", "no", None), ("told", "w", 2, 1), ("told", "v", 0, 1),
+            ("deed", "no", "a", ((), ())), ("deed", "no", "a", None), ("deed", "main", "no", None),
+            ("deed", "aux", "add", None),
+            ("deed", "main", "box", None), ("kind", "no", "a", (None, ())), ("kind", "no", "a", None),
+            ("kind", "main", "no", None),
+            ("kind", "main", "add", None), ("rows", "no", ()), ("module", "no", None), ("told", "w", 2, 1),
+            ("told", "v", 0, 1),
             ("told", "w", 10 ** 30, 1),
         ):
             self.assert_change_refused(run, NoEdit, (0,), (edit,))
@@ -408,8 +434,10 @@ class Edits(Case):
         run = self.ready()
         deed, kind = ((), ()), (None, ())
         for edits in (
-            (("module", "main", None),), (("deed", "main", "box", deed),), (("kind", "main", "add", kind),), (("deed", "main", "n", deed),),
-            (("kind", "main", "n", kind),), (("rows", "main", rows_of("(let add (= 1))")),), (("rows", "main", rows_of("(let box (= 1))")),),
+            (("module", "main", None),), (("deed", "main", "box", deed),), (("kind", "main", "add", kind),),
+            (("deed", "main", "n", deed),),
+            (("kind", "main", "n", kind),), (("rows", "main", rows_of("(let add (= 1))")),),
+            (("rows", "main", rows_of("(let box (= 1))")),),
             (("deed", "aux", "a", deed),), (("deed", "aux", "b", deed_of("(b () ((keep go (= 1))))")),),
         ):
             self.assert_change_refused(run, NoProgram, (), edits)
@@ -422,8 +450,10 @@ class Edits(Case):
         told = self.all_of(run)
         for thing in anything():
             for edit in (
-                thing, (thing,), (("deed", "main", thing, ((), ())),), (("deed", thing, "a", ((), ())),), (("deed", "main", "a", thing),),
-                (("kind", "main", "a", thing),), (("rows", "main", thing),), (("module", "aux", thing),), (("told", "w", thing, 1),),
+                thing, (thing,), (("deed", "main", thing, ((), ())),), (("deed", thing, "a", ((), ())),),
+                (("deed", "main", "a", thing),),
+                (("kind", "main", "a", thing),), (("rows", "main", thing),), (("module", "aux", thing),),
+                (("told", "w", thing, 1),),
                 (("told", "w", 0, thing),), ((thing, "main", "a", None),),
             ):
                 self.assertIn(run.would(edit)[0], ("let", "refused"))
@@ -441,14 +471,16 @@ class Changes(Case):
         self.assert_change_refused(run, Said, (1, (2,), ()), (("rows", "main", rows_of("(say (= 1))")),))
         self.assert_change_refused(run, Said, (0, (1,), ()), (("rows", "main", ()),))
         self.assert_change_refused(run, Said, (0, (1,), (2,)), (("rows", "main", rows_of("(say (= 2)) (say (= 1))")),))
-        self.assert_change_refused(run, Said, (0, (1,), (True,)), (("rows", "main", rows_of("(say (= yes)) (say (= 2))")),))
+        self.assert_change_refused(run, Said, (0, (1,), (True,)),
+            (("rows", "main", rows_of("(say (= yes)) (say (= 2))")),))
         self.assert_changed(run, (("rows", "main", rows_of("(say (= 1)) (say (= 2))")),))
 
     def test_said_where_it_waits_sooner(self):
         run = run_of("(say (= 1)) (do (ask w)) (say (= 2))")
         run.tell("w", 1)
         run.speak(2)
-        self.assert_change_refused(run, Said, (1, (2,), ()), (("rows", "main", rows_of("(say (= 1)) (do (ask v)) (say (= 2))")),))
+        self.assert_change_refused(run, Said, (1, (2,), ()),
+            (("rows", "main", rows_of("(say (= 1)) (do (ask v)) (say (= 2))")),))
 
     def test_said_rows_and_none(self):
         run = run_of("(say (= none)) (say (= [1 yes]))")
@@ -478,7 +510,8 @@ class Changes(Case):
         self.assertEqual(run.steps(), 7)
         run.change((("rows", "main", rows_of("(do (= 0)) (do (call go ()))")),))
         self.assertEqual((run.steps(), run.gone()), (9, 5))
-        self.assert_change_refused(run, TooLong, (9,), (("rows", "main", rows_of("(do (= 0)) (do (= 0)) (do (call go ()))")),))
+        self.assert_change_refused(run, TooLong, (9,),
+            (("rows", "main", rows_of("(do (= 0)) (do (= 0)) (do (call go ()))")),))
         run = run_of("(do (call go ()))", "(go () ()) (over () ((do (call go ()))))", deep=1)
         self.assert_change_refused(run, TooDeep, (1,), (("rows", "main", rows_of("(do (call over ()))")),))
 
@@ -510,7 +543,9 @@ class Changes(Case):
 
     def test_gone_of_a_deed_that_nothing_calls(self):
         run = run_of("(say (= 1))", ADD)
-        self.assert_changed(run, (("deed", "main", "add", None), ("deed", "main", "zoo", ((), ())), ("kind", "main", "tin", (None, ()))), gone=0)
+        self.assert_changed(run,
+            (("deed", "main", "add", None), ("deed", "main", "zoo", ((), ())), ("kind", "main", "tin", (None, ()))),
+            gone=0)
 
     def test_gone_of_rows_put_otherwise(self):
         run = run_of("(do (call go ((= 1)))) (do (call go ((= 2))))", "(go (n) ((do n) (do n) (do n)))")
@@ -526,9 +561,11 @@ class Changes(Case):
         self.assertEqual(self.all_of(run), before)
 
     def test_several_at_once_come_to_the_same_as_one_behind_another(self):
-        program = program_of("(say (call add ((ask w) (= 1)))) (say (far aux a))", ADD, "", ("(module aux () () ((let a (= 1))))",))
+        program = program_of("(say (call add ((ask w) (= 1)))) (say (far aux a))", ADD, "",
+            ("(module aux () () ((let a (= 1))))",))
         edits = (
-            ("deed", "main", "add", deed_of("(add (a b) ((tell (times a b))))")), ("rows", "aux", rows_of("(let a (= 2))")),
+            ("deed", "main", "add", deed_of("(add (a b) ((tell (times a b))))")),
+            ("rows", "aux", rows_of("(let a (= 2))")),
             ("told", "w", 0, 4), ("kind", "main", "box", (None, ())),
         )
         one, other = Run(program), Run(program)
@@ -546,26 +583,31 @@ class Changes(Case):
         steps_of_call = 14
         self.assertEqual(run.steps(), steps_of_call + 3 + 3 + 5)
         self.assert_changed(run, (("rows", "main", rows_of(
-            "(do (new box ())) (let q (new box ())) (let p (new box ())) (let r (call fill (p q)))")),), gone=3 + 3 + 3 + 5)
+            "(do (new box ())) (let q (new box ())) (let p (new box ())) (let r (call fill (p q)))")),),
+                gone=3 + 3 + 3 + 5)
         self.assertEqual(run.cell("main", "r"), ("row", (("thing", 2), ("thing", 1), ("thing", 4))))
         self.assertEqual(run.thing(2), (("kind", "main", "box"), (("a", 1),)))
         # Where the two things are one, it is no more held.
-        self.assert_changed(run, (("rows", "main", rows_of("(let p (new box ())) (let r (call fill (p p)))")),), gone=steps_of_call + 3 + 5)
+        self.assert_changed(run, (("rows", "main", rows_of("(let p (new box ())) (let r (call fill (p p)))")),),
+            gone=steps_of_call + 3 + 5)
 
     def test_two_that_were_one(self):
         run = run_of("(let p (new box ())) (do (call go (p p)))", "(go (t u) ((do t) (do u)))", "(box - ())")
-        self.assert_changed(run, (("rows", "main", rows_of("(let p (new box ())) (do (call go (p (new box ()))))")),), gone=run.steps() + 1)
+        self.assert_changed(run, (("rows", "main", rows_of("(let p (new box ())) (do (call go (p (new box ()))))")),),
+            gone=run.steps() + 1)
 
     def test_what_it_read_alone_counts(self):
         run = run_of("(let a (= 1)) (let b (= 2)) (do (call go ()))", "(go () ((do (row (a a)))))")
         other = "(let b (= 5)) (let c (= 1)) (let a (= 1)) (do (call go ()))"
         self.assert_changed(run, (("rows", "main", rows_of(other)),), gone=2 + 2 + 2 + 3)
-        self.assert_changed(run, (("rows", "main", rows_of(other.replace("(let a (= 1))", "(let a (= yes))"))),), gone=2 + 2 + 2 + 3 + 4)
+        self.assert_changed(run, (("rows", "main", rows_of(other.replace("(let a (= 1))", "(let a (= yes))"))),),
+            gone=2 + 2 + 2 + 3 + 4)
 
     def test_a_record_is_taken_once_at_most(self):
         run = run_of("(do (call go ()))", "(go () ((do (= 1))))")
         self.assert_changed(run, (("rows", "main", rows_of("(do (call go ())) (do (call go ()))")),), gone=3 + 5)
-        self.assert_changed(run, (("rows", "main", rows_of("(do (call go ())) (do (call go ())) (do (= 5))")),), gone=3 + 3 + 2)
+        self.assert_changed(run, (("rows", "main", rows_of("(do (call go ())) (do (call go ())) (do (= 5))")),),
+            gone=3 + 3 + 2)
 
     def test_none_within_a_taken_one_and_none_around_it(self):
         deeds = "(inn () ((do (= 1)))) (out () ((do (call inn ()))))"
@@ -574,7 +616,8 @@ class Changes(Case):
         self.assert_changed(run, (("rows", "main", rows_of("(do (call out ())) (do (call inn ()))")),), gone=3 + 3 + 2)
         run = run_of("(do (call out ()))", deeds)
         # That of inn is taken first: that of out around it isn't any more.
-        self.assert_changed(run, (("rows", "main", rows_of("(do (call inn ())) (do (call out ()))")),), gone=3 + 3 + 3 + 2)
+        self.assert_changed(run, (("rows", "main", rows_of("(do (call inn ())) (do (call out ()))")),),
+            gone=3 + 3 + 3 + 2)
 
     def test_records_behind_a_change_are_as_if_each_had_been_gone(self):
         deeds = "(inn (n) ((do n))) (out (n) ((if (= yes) ((do (call inn (n)))) ())))"
@@ -601,15 +644,20 @@ class Changes(Case):
             (fill (t) ((put t a (= 1)) (out t b) (keep last t) (keep rows (row (t (row (t)))))))
             (hold (t) ((each x (row (t (= 2))) ((try ((tell x)) - ((give y (= 1))))))))
         """
-        rows = "(let t (new box ())) (put t b (= 5)) (do (call fill (t))) (let g (call hold (t))) (do (wake g (= 0))) (say (same (at (wake g (= 0)) (= 1)) t))"
+        rows = """
+            (let t (new box ())) (put t b (= 5)) (do (call fill (t))) (let g (call hold (t))) (do (wake g (= 0)))
+            (say (same (at (wake g (= 0)) (= 1)) t))
+        """
         run = run_of("(do (new box ()))" + rows, deeds, "(box - ())")
         taken = sum(record[5] for _, record in run.records() if record[0][0] in ("deed", "wake"))
-        self.assert_changed(run, (("rows", "main", rows_of("(do (new box ())) (do (new box ()))" + rows)),), gone=run.steps() + 3 - taken)
+        self.assert_changed(run, (("rows", "main", rows_of("(do (new box ())) (do (new box ()))" + rows)),),
+            gone=run.steps() + 3 - taken)
         self.assertEqual(run.thing(2), (("kind", "main", "box"), (("a", 1),)))
         self.assertEqual((run.cell("main", "last"), run.sayings()), (("thing", 2), (True,)))
         self.assertEqual(run.records(), Run(run.program()).records())
         self.assert_changed(run, (("rows", "main", rows_of(rows)),), gone=run.steps() - 6 - taken)
-        self.assertEqual((run.cell("main", "rows"), run.thing(0)[1]), (("row", (("thing", 0), ("row", (("thing", 0),)))), (("a", 1),)))
+        self.assertEqual((run.cell("main", "rows"), run.thing(0)[1]),
+            (("row", (("thing", 0), ("row", (("thing", 0),)))), (("a", 1),)))
         self.assertEqual(run.records(), Run(run.program()).records())
 
     def test_keep_none(self):
@@ -619,12 +667,13 @@ class Changes(Case):
 
     def test_a_giver_within_taken_records_goes_on(self):
         deeds = "(go (n) ((each x (= [1 2 3]) ((try ((give y (plus n x))) - ((say x)))))))"
-        run = run_of("(let g (call go ((= 10)))) (say (wake g (= 0))) (say (wake g (= 0))) (say (ask w)) (say (wake g (= 0)))", deeds)
+        twice = "(let g (call go ((= 10)))) (say (wake g (= 0))) (say (wake g (= 0)))"
+        run = run_of(f"{twice} (say (ask w)) (say (wake g (= 0)))", deeds)
         run.tell("w", 5)
         taken = sum(record[5] for _, record in run.records() if record[0][0] == "wake")
         self.assert_changed(run, (("told", "w", 0, 6),), gone=run.steps() - taken)
         self.assert_changed(run, (("rows", "main", rows_of(
-            "(let g (call go ((= 10)))) (say (wake g (= 0))) (say (wake g (= 0))) (say (wake g (= 0))) (say (wake g (= 0)))")),))
+            f"{twice} (say (wake g (= 0))) (say (wake g (= 0)))")),))
         self.assertEqual(run.sayings()[-2:], (3, ("row", (False, None))))
 
     def test_behind_each_deed_it_stands_as_a_plain_run(self):
@@ -647,11 +696,13 @@ class Steps(Case):
         # say, call, go, = and then, in the call with its room made, say, n, tell, n; let, new, box.
         found = [run.at(step) for step in range(run.steps() + 1)]
         self.assertEqual(found, [
-            (0, 0, 0), (0, 0, 0), (0, 0, 0), (0, 0, 0), (0, 1, 1), (0, 1, 1), (1, 1, 1), (1, 1, 1), (2, 1, 0), (2, 1, 0), (2, 1, 0), (2, 2, 0),
+            (0, 0, 0), (0, 0, 0), (0, 0, 0), (0, 0, 0), (0, 1, 1), (0, 1, 1), (1, 1, 1), (1, 1, 1), (2, 1, 0),
+            (2, 1, 0), (2, 1, 0), (2, 2, 0),
         ])
 
     def test_at_the_end_of_all_where_it_waits(self):
-        run = run_of("(do (call go ((= 1))))", "(go (n) ((do (wake (call gives ()) (ask w))))) (gives () ((give x (ask v))))")
+        run = run_of("(do (call go ((= 1))))",
+            "(go (n) ((do (wake (call gives ()) (ask w))))) (gives () ((give x (ask v))))")
         self.assertEqual(run.at(run.steps()), (0, 3, 1))
         run.tell("w", 1)
         self.assertEqual((run.stand(), run.at(run.steps())), (("waits", "v"), (0, 3, 2)))

@@ -27,14 +27,17 @@ LISTED = {
 
 # Of its classes the methods, each of which stands in the class itself, with its arguments.
 PLAIN = {
-    "__init__": "self, program, wells, *, most=MOST, deep=DEEP", "sayings": "self", "stand": "self", "cell": "self, module, name",
-    "cells": "self, module", "things": "self", "thing": "self, k", "steps": "self", "asked": "self, well", "there": "self, place",
+    "__init__": "self, program, wells, *, most=MOST, deep=DEEP", "sayings": "self", "stand": "self",
+    "cell": "self, module, name",
+    "cells": "self, module", "things": "self", "thing": "self, k", "steps": "self", "asked": "self, well",
+    "there": "self, place",
 }
 METHODS = {
     "Plain": PLAIN,
     "Run": {
         **PLAIN, "__init__": "self, program, *, most=MOST, deep=DEEP, keep=KEEP", "program": "self", "wells": "self",
-        "tell": "self, well, worth", "speak": "self, many=1, *, mouth=None", "busy": "self", "spoken": "self", "records": "self",
+        "tell": "self, well, worth", "speak": "self, many=1, *, mouth=None", "busy": "self", "spoken": "self",
+        "records": "self",
         "change": "self, edits", "gone": "self", "would": "self, edits", "at": "self, step",
     },
 }
@@ -69,7 +72,8 @@ class Shape(unittest.TestCase):
         for _, _, tree in self.each():
             for node in ast.walk(tree):
                 if isinstance(node, ast.ClassDef) and node.name in METHODS:
-                    found[node.name] = {row.name: ast.unparse(row.args) for row in node.body if isinstance(row, ast.FunctionDef)}
+                    found[node.name] = {row.name: ast.unparse(row.args) for row in node.body if isinstance(row,
+                        ast.FunctionDef)}
         for name, methods in METHODS.items():
             self.assertEqual({method: found[name].get(method) for method in methods}, methods)
 
