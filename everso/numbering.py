@@ -10,7 +10,7 @@ from everso.worths import is_thing
 
 
 class Gatherer:
-    """A leader that keeps the numbers, and puts 0 in the place of each."""
+    """A leader that leads each number to itself, and keeps it."""
 
     def __init__(self):
         self.numbers = []
@@ -18,7 +18,7 @@ class Gatherer:
     def of(self, k):
         """Keep a number."""
         self.numbers.append(k)
-        return 0
+        return k
 
 
 def worth_by(worth, leader):

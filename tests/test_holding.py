@@ -120,6 +120,52 @@ class Held(unittest.TestCase):
         other = plain_of("(let g (call go ((= [1 2])))) (do (wake g (= 0)))", deeds)
         self.assertIsNone(held_by(second, other, (1, 7)))
 
+    def test_what_the_frames_of_givers_hold(self):
+        deeds = """
+            (go (k a) ((each x (= [1 1]) ((try (
+                (if (same k (= 0)) ((tell a)) ()) (if (same k (= 1)) ((raise a)) ()) (if (same k (= 2)) ((leave)) ())
+            ) - ((give y x) (give y x)))))))
+        """
+        begun = "(let t (new box ())) (let u (new box ())) (let g (call go ((= {}) {})))"
+
+        def second(k, worth):
+            rows = begun.format(k, worth) + "(do (wake g (= 0))) (do (wake g (= 0)))"
+            return of_word("wake", rows, deeds, "(box - ())")[1]
+
+        def now(k, worth, wakes=1):
+            return plain_of(begun.format(k, worth) + "(do (wake g (= 0)))" * wakes, deeds, "(box - ())")
+        rooms = ((2, 2), (3, 3))
+        for one, other, held in (
+            ((0, "(= 5)"), (0, "(= 5)"), rooms), ((0, "(= 5)"), (0, "(= 6)"), None),
+            ((0, "(= 1)"), (0, "(= yes)"), None),
+            ((0, "(= 5)"), (1, "(= 5)"), None), ((1, "(= 5)"), (0, "(= 5)"), None), ((1, "(= 5)"), (1, "(= 5)"), rooms),
+            ((0, "t"), (0, "u"), ((0, 1),) + rooms), ((0, "u"), (0, "t"), ((1, 0),) + rooms),
+            ((0, "t"), (0, "t"), ((0, 0),) + rooms),
+            ((1, "(row (t u t))"), (1, "(row (u t u))"), ((0, 1), (1, 0)) + rooms),
+            ((1, "(row (t u t))"), (1, "(row (u t t))"), None),
+            ((1, "(row (t u t))"), (1, "(row (u t))"), None), ((0, "t"), (0, "(= 0)"), None),
+            ((0, "(= 0)"), (0, "t"), None),
+            ((0, "t"), (0, "(row (t))"), None), ((0, "(row (t))"), (0, "t"), None), ((0, "box"), (0, "(= none)"), None),
+            ((2, "(= 5)"), (2, "(= 6)"), rooms), ((2, "(= 5)"), (3, "(= 5)"), None),
+            ((3, "(= 5)"), (3, "(= 6)"), rooms),
+            ((3, "(= 5)"), (0, "(= none)"), None),
+        ):
+            self.assertEqual(held_by(second(*one), now(*other), (3, 0)), held, (one, other))
+        # The same rows at another spot, in another turn.
+        self.assertIsNone(held_by(second(3, "(= 5)"), now(3, "(= 5)", 2), (3, 0)))
+        self.assertIsNone(held_by(second(3, "(= 5)"), now(3, "(= 5)", 3), (3, 0)))
+        self.assertIsNone(held_by(second(3, "(= 5)"), now(3, "(= 5)", 0), (3, 0)))
+
+    def test_rooms_around_rooms(self):
+        deeds = "(go (n) ((tell (deed () ((tell (deed () ((tell n)))))))))"
+        record = of_word("deed", "(do (call (call (call go ((= 5))) ()) ()))", deeds)[-1]
+        self.assertEqual(record[2], ((("up", 2), (0,)), (("field", 0, "n"), (5,))))
+        plain = plain_of("(let f (call go ((= 5)))) (let g (call f ())) (let h (call go ((= 6)))) (let i (call h ()))",
+            deeds)
+        found = [held_by(record, plain, (k, ())) for k in range(plain.things())]
+        self.assertEqual(found, [None, None, ((0, 0), (2, 2)), None, None, None, None, None])
+        self.assertIsNone(held_by(record, plain, (None, ())))
+
     def test_where_nothing_is_there(self):
         deeds = "(go (r) ((each x r ((give y x)))))"
         first, second = of_word("wake", "(let g (call go ((= [1])))) (do (wake g (= 0))) (do (wake g (= 7)))", deeds)
