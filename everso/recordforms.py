@@ -39,6 +39,8 @@ def is_handed(text, handed):
     if not isinstance(handed, tuple) or len(handed) != 2:
         return False
     room, told = handed
+    if text[0] == "wake":
+        return is_number(room) and is_worth(told)
     if not is_room(room):
         return False
     if text[0] == "deed":

@@ -305,8 +305,14 @@ class Bounds(unittest.TestCase):
         ("(do (call gives ()))", 3), ("(do (wake (call gives ()) (= 1)))", 7), ("(do (new box ()))", 3),
         ("(do (new tin ((= 1))))", 6), ("(put (new box ()) a (= 1))", 4), ("(say (has (new box ()) a))", 4),
         ("(let n (= 0)) (while (less n (= 2)) ((let n (plus n (= 1)))))", 2 + 1 + 4 + 4 + 4 + 4 + 4),
+        ("(let a (= 1)) (do a)", 4), ("(let a (= 1)) (do (far main a))", 4), ("(do (fields (new box ())))", 4),
+        ("(do (field (new box ()) a))", 4), ("(out (new box ()) a)", 3), ("(do (ask w))", 2), ("(raise (= 1))", 2),
+        ("(do (send (new tin ((= 1))) make ((= 2))))", 10), ("(do (not (= yes)))", 3), ("(do (at (= [1]) (= 0)))", 4),
+        ("(do (call (call made ((= 1))) ()))", 9), ("(do (new box ((= 1))))", 4), ("(do (call one ()))", 3),
     )
-    DEEDS = "(gives () ((give x (= 1)))) (none () ()) (one (n) ((tell n)))"
+    DEEDS = """
+        (gives () ((give x (= 1)))) (made (n) ((tell (deed () ((tell n)))))) (none () ()) (one (n) ((tell n)))
+    """
     KINDS = "(box - ()) (tin - ((make (self n) ((tell n)))))"
 
     def test_steps(self):

@@ -36,7 +36,10 @@ class Held(unittest.TestCase):
             (self.CELLS + "(let a (= 2))", None), (self.CELLS + "(let a (= yes))", None),
             (self.CELLS + "(let b (= [1 2]))", None),
             (self.CELLS + "(let b (= [yes 2 3]))", None), (self.CELLS + "(let c (= none))", None), ("", None),
-            (self.CELLS + "(let b (= ['yes' 2]))", None),
+            (self.CELLS + "(let b (= ['yes' 2]))", None), (self.CELLS + "(let b (= 2))", None),
+            (self.CELLS + "(let b (= none))", None), (self.CELLS + "(let b (= 'row'))", None),
+            (self.CELLS + "(let b (deed () ()))", None), (self.CELLS + "(let a (= [1]))", None),
+            (self.CELLS + "(let a (deed () ()))", None),
         ):
             self.assertEqual(held_by(record, plain_of(rows), (None, None)), held, rows)
 
@@ -155,6 +158,14 @@ class Held(unittest.TestCase):
         self.assertIsNone(held_by(second(3, "(= 5)"), now(3, "(= 5)", 2), (3, 0)))
         self.assertIsNone(held_by(second(3, "(= 5)"), now(3, "(= 5)", 3), (3, 0)))
         self.assertIsNone(held_by(second(3, "(= 5)"), now(3, "(= 5)", 0), (3, 0)))
+
+    def test_a_room_matches_a_room_alone(self):
+        inner, = of_word("rows", "(do (call go ()))", "(go () ((if (= yes) ((say (= 1))) ())))")
+        outer, = of_word("rows", "(if (= yes) ((say (= 1))) ())")
+        self.assertEqual((inner[0], inner[1], outer[1]), (outer[0], (0, None), (None, None)))
+        plain = plain_of("(do (call go ()))", "(go () ())")
+        for record, room, held in ((inner, 0, ((0, 0),)), (inner, None, None), (outer, 0, None), (outer, None, ())):
+            self.assertEqual(held_by(record, plain, (room, None)), held)
 
     def test_rooms_around_rooms(self):
         deeds = "(go (n) ((tell (deed () ((tell (deed () ((tell n)))))))))"

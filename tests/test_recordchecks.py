@@ -537,6 +537,8 @@ class Texts(unittest.TestCase):
             (("turn", each), ((None, None), (7, None)), ((None, 5), (None,), (None, ())), (("cell", "m", "a", None),),
                 ("on",), 1, 0),
             (("module", do), ((),), ((None, None), (None,), None, []), (), ("on",), 2, 0),
+            (("caught", ("cell", "m", "a"), do), ((None, 1), (5, 1)), ((None, ()), (1,), (None, 1, 1)),
+                (("cell", "m", "a", 1),), ("on",), 2, 0),
             (("deed", ((), do)), ((None, ()),), ((None, None), (None, []), (None, (None,)), (), ((), ())), room,
                 ("told", None), 2, 1),
         ):
@@ -545,6 +547,17 @@ class Texts(unittest.TestCase):
             for handed in wrongs + ((-1, rights[0][-1] if rights[0] else None), ("5", None), (True, None), None, 5,
                 [None, None]):
                 self.check(text, handed, False, effects, end, steps, deep)
+
+    def test_what_is_handed_to_a_waking(self):
+        deed = ((), (("give", ("cell", "m", "a"), ONE),))
+        reads = ((("frame", 1), (("new",),)), (("up", 1), ((deed, 0),)))
+        effects = (("frame", 1, ("going",)), ("frame", 1, ("gave", ((0,),), ())))
+        for handed in ((None, 5), ("1", 5), (True, 5), (-1, 5), (1,), (1, 5, 5), (1, ()), (), None, [1, 5],
+            (1, thing(-1)), (2, 5)):
+            for reads_now in (reads, reads[:1], ()):
+                self.assertIs(record_holds((("wake", deed), handed, reads_now, effects, ("gave", 1), 2, 1)), False,
+                    handed)
+        self.assertTrue(record_holds((("wake", deed), (1, 5), reads, effects, ("gave", 1), 2, 1)))
 
     def test_four_hundred_parts_and_one_more(self):
         for many, is_so in ((200, True), (201, False)):
