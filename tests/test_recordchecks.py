@@ -83,6 +83,22 @@ class Good(unittest.TestCase):
             effects = tuple(effect[:1] + (k if effect[1] == 90 else effect[1],) + effect[2:] for effect in record[3])
             self.assertIs(record_holds(with_part(record, 3, effects)), is_so, k)
 
+    def test_others_names(self):
+        others = {"t": "thing", "n": "number", "a": "row", "main": "deed", "box": "own", "x": "say", "r": "ended",
+            "f": "told", "w": "names"}
+
+        def renamed(part):
+            if isinstance(part, tuple):
+                return tuple(renamed(inner) for inner in part)
+            return others.get(part, part) if isinstance(part, str) else part
+        for record in (CALL, WAKE, TURN):
+            self.assertNotEqual(renamed(record), record)
+            self.assertTrue(record_holds(renamed(record)))
+        # A name that is another one in just one of its places.
+        self.assertFalse(record_holds(with_part(CALL, 0, renamed(CALL[0]))))
+        self.assertFalse(record_holds(with_part(TURN, 2, renamed(TURN[2]))))
+        self.assertFalse(record_holds(with_part(WAKE, 3, renamed(WAKE[3]))))
+
     def test_a_thing_has_no_number_that_no_worth_has(self):
         text = ("rows", (("do", ("row", (("new", ("cell", "main", "box"), ()),))),))
         reads = ((("cell", "main", "box"), (BOX,)), (("chain", "main", "box", "make"), ()))
