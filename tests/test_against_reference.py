@@ -16,8 +16,6 @@ from reference_runs import ReferenceRun, holds, led, led_handed, led_was
 from samples import told_of
 
 MANY = 120
-# The other reading goes by Python's own calls.
-sys.setrecursionlimit(20000)
 
 
 def is_in_bounds(program):
@@ -63,6 +61,11 @@ def numbers_of(record):
 
 
 class Against(unittest.TestCase):
+    def setUp(self):
+        # The other reading goes by Python's own calls, the program doesn't need more of them.
+        self.addCleanup(sys.setrecursionlimit, sys.getrecursionlimit())
+        sys.setrecursionlimit(20000)
+
     def compare(self, run, reference):
         """All that a Run tells is what the other reading and a Plain tell."""
         told = repr(reference.plain.all_told())

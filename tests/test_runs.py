@@ -4,8 +4,10 @@ import unittest
 from everso.errors import (
     Busy, NoCell, NoEdit, NoModule, NoName, NoProgram, NoStep, NoThing, NotYet, NoWorth, Said, TooDeep, TooLong,
 )
+from everso.holding import held_by
 from everso.plains import Plain
 from everso.programtexts import read_program
+from everso.recordchecks import record_holds
 from everso.runs import Run
 from samples import anything, program_of, told_of
 
@@ -30,9 +32,9 @@ def kind_of(text):
 
 
 class Case(unittest.TestCase):
-    def assert_stands(self, run, most=2000, deep=10):
+    def assert_stands(self, run):
         """A Run tells just what a Plain of its program and wells tells."""
-        plain = Plain(run.program(), run.wells(), most=most, deep=deep)
+        plain = Plain(run.program(), run.wells(), most=run.most, deep=run.deep)
         self.assertEqual(repr(told_of(run, run.program())), repr(told_of(plain, run.program())))
         for k in range(run.things()):
             for word in ("names", "sort", "up", "frame"):
@@ -688,6 +690,41 @@ class Changes(Case):
         self.assert_change_refused(run, Said, (1, (3,), (4,)), (("told", "w", 1, 2),))
         self.assert_changed(run, (("told", "w", 2, 5),))
         self.assertEqual(run.sayings(), (2, 3, 8))
+
+
+class Nested(Case):
+    def rows(self, deeds):
+        """Rows in which deeds, bodies and expressions stand within one another, ten for each deed."""
+        inner = ("call", ("deed", (), self.rows(deeds - 1)), ()) if deeds else ("ask", "w")
+        for _ in range(2):
+            inner = ("word", "at", (("row", (inner,)), ("worth", 0)))
+        rows = (("say", inner), ("tell", ("worth", deeds)))
+        for _ in range(2):
+            rows = (("try", (("if", ("worth", True), rows, ()),), None, ()),)
+        return (("each", "x", ("worth", ("row", (1,))), rows),)
+
+    def test_forty_within_one_another_and_eighty_as_they_go(self):
+        deeds = (("go", (("n",), (
+            ("if", ("word", "less", (("worth", 0), ("name", "n"))), (
+                ("tell", ("call", ("name", "go"), (("word", "minus", (("name", "n"), ("worth", 1))),))),
+            ), self.rows(3)),
+        ))),)
+        rows = (("do", ("call", ("name", "go"), (("worth", 7),))),)
+        program = (("main", deeds, (), rows),)
+        run = Run(program, most=5000, deep=12)
+        self.assertEqual(run.stand(), ("waits", "w"))
+        run.tell("w", 5)
+        self.assertEqual((run.sayings(), run.stand()), ((5, 0, 1, 2), ("ended",)))
+        self.assertEqual(max(record[6] for _, record in run.records()), 11)
+        self.assert_changed(run, (("told", "w", 0, 6),))
+        self.assertEqual(run.sayings(), (6, 0, 1, 2))
+        self.assert_changed(run, (), gone=0)
+        plain = Plain(program, run.wells(), most=5000, deep=12)
+        for _, record in run.records():
+            self.assertTrue(record_holds(record))
+            self.assertIsNone(held_by(record, Plain(program, (), deep=11), record[1]))
+        whole = run.records()[0][1]
+        self.assertIsNone(held_by(whole, plain, ()))
 
 
 class Steps(Case):
